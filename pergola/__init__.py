@@ -1,0 +1,1 @@
+"""Pergola: rules about trees, told whole by one table."""

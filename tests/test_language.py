@@ -1,0 +1,201 @@
+"""The rules of the language that can be seen in a file, as far as the program needs them."""
+
+import ast
+import io
+import pathlib
+import re
+import tokenize
+import unittest
+
+FOLDER = pathlib.Path(__file__).resolve().parent.parent / "pergola"
+FILES = sorted(FOLDER.glob("*.py"))
+
+LIBRARY = {
+    "heapq": {"heappush", "heappop", "heapify", "heapreplace", "heappushpop"},
+    "math": {"gcd", "lcm", "isqrt", "comb", "perm", "factorial"},
+    "itertools": {
+        "product", "combinations", "permutations", "chain", "accumulate", "pairwise", "islice", "zip_longest",
+    },
+    "collections": {"defaultdict", "deque"},
+}
+BUILTINS = set(
+    "len range enumerate zip min max sum abs sorted reversed int str bool list tuple dict set isinstance ord repr any "
+    "all divmod pow map iter next super type property staticmethod classmethod NotImplemented Exception ValueError "
+    "TypeError KeyError IndexError LookupError ZeroDivisionError ArithmeticError OverflowError RuntimeError "
+    "NotImplementedError AttributeError StopIteration".split()
+)
+ALL_BUILTINS = set(dir(__builtins__) if not isinstance(__builtins__, dict) else __builtins__)
+METHODS = set(
+    "append clear copy count endswith extend find get index insert isalnum isalpha isdigit islower isspace isupper "
+    "items join keys ljust lower lstrip partition pop remove replace reverse rfind rjust rpartition rsplit rstrip "
+    "setdefault split splitlines startswith strip update upper values zfill bit_length add discard sort __init__ "
+    "popleft appendleft extendleft rotate".split()
+)
+BARRED_NODES = (
+    ast.AsyncFunctionDef, ast.AsyncFor, ast.AsyncWith, ast.Await, ast.Global, ast.Div, ast.MatMult, ast.Import,
+)
+BARRED_WORDS = re.compile(
+    r"\b(mro|elements|open|input|law|version_info|with_traceback|add_note|register|eval|exec|compile|globals|locals"
+    r"|typing|enum|Enum|Generic|Protocol|namedtuple|chr|float|frozenset|bytes|bytearray)\b"
+)
+
+
+def own_modules():
+    return {f"pergola.{path.stem}" for path in FILES}
+
+
+class LanguageTest(unittest.TestCase):
+    def setUp(self):
+        self.sources = {path: path.read_text(encoding="ascii") for path in FILES}
+        self.trees = {path: ast.parse(source) for path, source in self.sources.items()}
+
+    def nodes(self, *kinds):
+        for path, tree in self.trees.items():
+            for node in ast.walk(tree):
+                if isinstance(node, kinds):
+                    yield path, node
+
+    def test_folder(self):
+        self.assertIn(FOLDER / "__init__.py", FILES)
+        others = [path.name for path in FOLDER.iterdir() if path not in FILES and path.name != "__pycache__"]
+        self.assertEqual(others, [])
+        for path in FILES:
+            self.assertRegex(path.stem, r"^(__init__|[a-z][a-z0-9_]*)$")
+            self.assertNotIn(path.stem, ALL_BUILTINS)
+
+    def test_characters_and_sizes(self):
+        for path, source in self.sources.items():
+            lines = source.split("\n")
+            self.assertLessEqual(len(lines), 399, path)
+            self.assertTrue(all(len(line) <= 120 for line in lines), path)
+            self.assertTrue(all(char == "\n" or " " <= char <= "~" for char in source), path)
+        for path, node in self.nodes(ast.FunctionDef):
+            self.assertLessEqual(node.end_lineno - node.lineno + 1, 40, f"{path} {node.name}")
+
+    def test_imports(self):
+        own = own_modules()
+        for path, tree in self.trees.items():
+            for node in tree.body:
+                if isinstance(node, ast.ImportFrom):
+                    names = {alias.name for alias in node.names}
+                    self.assertEqual(node.level, 0)
+                    self.assertTrue(node.module in own or names <= LIBRARY.get(node.module, set()), path)
+                    self.assertTrue(all(alias.asname is None for alias in node.names), path)
+            inner = [node for node in ast.walk(tree) if isinstance(node, ast.ImportFrom) and node not in tree.body]
+            self.assertEqual(inner, [], path)
+
+    def test_imports_name_the_file_that_defines(self):
+        defined = {}
+        for path, tree in self.trees.items():
+            here = defined.setdefault(f"pergola.{path.stem}", set())
+            for node in tree.body:
+                if isinstance(node, (ast.FunctionDef, ast.ClassDef)):
+                    here.add(node.name)
+                elif isinstance(node, ast.Assign):
+                    here.update(target.id for target in node.targets)
+        for path, node in self.nodes(ast.ImportFrom):
+            if node.module in defined:
+                for alias in node.names:
+                    self.assertIn(alias.name, defined[node.module], path)
+
+    def test_no_circle_of_imports(self):
+        own = own_modules()
+        seen = {}
+        for path, node in self.nodes(ast.ImportFrom):
+            if node.module in own:
+                seen.setdefault(f"pergola.{path.stem}", set()).add(node.module)
+        left = set(own)
+        while left:
+            free = {name for name in left if not seen.get(name, set()) & left}
+            self.assertTrue(free, left)
+            left -= free
+
+    def test_module_level(self):
+        for path, tree in self.trees.items():
+            bound = []
+            for index, node in enumerate(tree.body):
+                if index == 0 and isinstance(node, ast.Expr):
+                    self.assertIsInstance(node.value.value, str)
+                elif isinstance(node, ast.ImportFrom):
+                    bound += [alias.name for alias in node.names]
+                elif isinstance(node, ast.Assign):
+                    self.assertEqual(len(node.targets), 1)
+                    ast.literal_eval(node.value)
+                    bound.append(node.targets[0].id)
+                else:
+                    self.assertIsInstance(node, (ast.FunctionDef, ast.ClassDef), path)
+                    bound.append(node.name)
+            self.assertEqual(len(bound), len(set(bound)), path)
+
+    def test_statements(self):
+        for path, node in self.nodes(*BARRED_NODES):
+            self.fail(f"{path} {node.lineno} {type(node).__name__}")
+        for path, node in self.nodes(ast.Constant):
+            self.assertNotIsInstance(node.value, (float, complex, bytes), path)
+        for path, node in self.nodes(ast.FunctionDef):
+            self.assertEqual(node.decorator_list, [], path)
+
+    def test_names(self):
+        """Names are no builtins, and no parameter or variable hides what its file binds."""
+        for path, tree in self.trees.items():
+            bound = {alias.name for node in tree.body if isinstance(node, ast.ImportFrom) for alias in node.names}
+            bound |= {node.name for node in tree.body if isinstance(node, ast.ClassDef)}
+            for node in ast.walk(tree):
+                names = []
+                if isinstance(node, ast.arg):
+                    names = [node.arg]
+                if isinstance(node, ast.Name) and not isinstance(node.ctx, ast.Load):
+                    names = [node.id]
+                if isinstance(node, (ast.FunctionDef, ast.ClassDef)):
+                    self.assertNotIn(node.name, ALL_BUILTINS, path)
+                for name in names:
+                    self.assertNotIn(name, bound, path)
+                    self.assertNotIn(name, ALL_BUILTINS, path)
+
+    def test_builtins(self):
+        for path, node in self.nodes(ast.Name):
+            if node.id in ALL_BUILTINS:
+                self.assertIn(node.id, BUILTINS, f"{path} {node.lineno}")
+
+    def test_methods(self):
+        own = {node.name for _, node in self.nodes(ast.FunctionDef)}
+        for path, node in self.nodes(ast.Call):
+            if isinstance(node.func, ast.Attribute):
+                self.assertIn(node.func.attr, METHODS | own, f"{path} {node.lineno}")
+
+    def test_generator_expressions(self):
+        for path, tree in self.trees.items():
+            for node in ast.walk(tree):
+                if isinstance(node, (ast.GeneratorExp, ast.Yield, ast.YieldFrom)):
+                    self.fail(f"{path} {node.lineno}: take a list")
+
+    def test_strings(self):
+        docs = set()
+        for _, node in self.nodes(ast.Module, ast.FunctionDef, ast.ClassDef):
+            first = node.body[0] if node.body else None
+            if isinstance(first, ast.Expr) and isinstance(first.value, ast.Constant):
+                docs.add(first.value)
+        for path, node in self.nodes(ast.Constant):
+            if isinstance(node.value, str) and node not in docs:
+                self.assertNotIn("%", node.value, path)
+                self.assertNotIn("__", node.value, path)
+
+    def test_words(self):
+        for path, source in self.sources.items():
+            for token in tokenize.generate_tokens(io.StringIO(source).readline):
+                if token.type == tokenize.NAME:
+                    self.assertIsNone(BARRED_WORDS.search(token.string), f"{path} {token.start}")
+                    self.assertNotRegex(token.string, r"^_[^a-z_]", path)
+
+    def test_lambdas(self):
+        for path, tree in self.trees.items():
+            lines = {}
+            for node in ast.walk(tree):
+                if isinstance(node, ast.Lambda):
+                    names = [arg.arg for arg in node.args.args]
+                    self.assertNotIn(names, lines.setdefault(node.lineno, []), path)
+                    lines[node.lineno].append(names)
+
+
+if __name__ == "__main__":
+    unittest.main()
