@@ -1,7 +1,16 @@
 """Books of rules: signs, marks with floors, and rules."""
 
 from pergola.errors import Missing, NotAllowed
-from pergola.terms import are_different_words, arity_of, check_signs, is_name, is_node, is_term_within, names_of
+from pergola.terms import (
+    are_different_words,
+    arity_of,
+    check_signs,
+    is_name,
+    is_node,
+    is_term_within,
+    names_of,
+    number_beside,
+)
 
 MAX_MARKS = 6
 MAX_FLOOR = 2
@@ -38,7 +47,7 @@ def check_marks(signs, marks):
 def check_rule(signs, marks, rule):
     """Raise NotAllowed if a triple is not a rule of a book with these signs and marks."""
     mark, head, body = rule
-    floor = floor_among(marks, mark)
+    floor = number_beside(marks, mark)
     if floor < 0:
         raise NotAllowed("a rule must be for a mark of the book")
     if not is_head(signs, head):
@@ -55,7 +64,7 @@ def check_literal(signs, marks, literal, floor):
     """Raise NotAllowed if a triple is no literal of a rule for a mark of this floor."""
     yes, mark, term = literal
     highest = floor if yes else floor - 1
-    if not 0 <= floor_among(marks, mark) <= highest:
+    if not 0 <= number_beside(marks, mark) <= highest:
         raise NotAllowed("a literal must have a mark of a floor that is low enough")
     if not is_term_within(signs, term, MAX_TERM):
         raise NotAllowed("a literal must have a term of a size of at most 6")
@@ -83,21 +92,13 @@ def further_names(rule):
 
 def floor_of(book, mark):
     """Return the floor of a mark of a book."""
-    floor = floor_among(book[1], mark)
+    floor = number_beside(book[1], mark)
     if floor < 0:
         raise Missing("the book has no such mark")
     return floor
 
 
-def floor_among(marks, word):
-    """Return the floor of a mark, and -1 for a text that is no mark."""
-    for mark, floor in marks:
-        if mark == word:
-            return floor
-    return -1
-
-
 def rules_of_floor(book, floor):
     """Return the list of the indexes of the rules for marks of a floor."""
     _, marks, rules = book
-    return [index for index, rule in enumerate(rules) if floor_among(marks, rule[0]) == floor]
+    return [index for index, rule in enumerate(rules) if number_beside(marks, rule[0]) == floor]

@@ -44,9 +44,14 @@ def are_different_words(texts):
 
 def arity_of(signs, word):
     """Return the arity of a sign, and -1 for a text that is no sign."""
-    for sign, arity in signs:
-        if sign == word:
-            return arity
+    return number_beside(signs, word)
+
+
+def number_beside(pairs, word):
+    """Return the number that stands beside a word in pairs, and -1 if it has none."""
+    for other, number in pairs:
+        if other == word:
+            return number
     return -1
 
 
