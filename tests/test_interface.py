@@ -29,6 +29,60 @@ FUNCTIONS = {
         "rules_of_floor": ["book", "floor"],
     },
     "bookwriter": {"book_text": ["book"], "rule_text": ["rule"]},
+    "bookreader": {"read_book": ["text"], "read_rule": ["signs", "marks", "text"]},
+    "table": {
+        "check_table": ["book", "table"],
+        "row_of": ["signs", "moves", "term", "filling"],
+        "table_of": ["book"],
+        "marks_of": ["book", "tree"],
+        "has": ["book", "mark", "tree"],
+    },
+    "lemmas": {
+        "is_lemma": ["book", "table", "lemma"],
+        "value_of": ["book", "table", "lemmas", "floor", "term", "filling"],
+        "follows": ["book", "table", "lemmas", "lemma"],
+        "lemmas_of": ["book"],
+    },
+    "judge": {
+        "keeps_rules": ["book", "table"],
+        "judge_lemmas": ["book", "table", "lemmas"],
+        "judge_table": ["book", "table", "lemmas"],
+    },
+    "sayings": {
+        "check_saying": ["book", "saying"],
+        "free_names": ["saying"],
+        "holds": ["book", "saying", "filling"],
+        "true_rows": ["book", "saying", "names"],
+    },
+    "plays": {
+        "turned": ["saying"],
+        "least_filling": ["book", "saying", "names"],
+        "parting": ["book", "first", "second", "names"],
+    },
+}
+
+CLASSES = {
+    "plays": {
+        "Play": {
+            "__init__": ["self", "book", "saying", "filling"],
+            "saying": ["self"],
+            "filling": ["self"],
+            "side": ["self"],
+            "turn": ["self"],
+            "choose": ["self", "choice"],
+            "choices": ["self"],
+            "back": ["self"],
+            "winner": ["self"],
+            "advice": ["self"],
+        },
+    },
+}
+
+CONSTANTS = {
+    "bookreader": {"MAX_BOOK_TEXT": 6000},
+    "table": {"MAX_ROWS": 24},
+    "lemmas": {"MAX_STEPS": 600},
+    "sayings": {"MAX_NODES": 60, "MAX_NESTED": 4},
 }
 
 ERRORS = {
@@ -51,6 +105,21 @@ class InterfaceTest(unittest.TestCase):
                 self.assertTrue(inspect.isfunction(function))
                 self.assertEqual(function.__module__, module.__name__)
                 self.assertEqual(list(inspect.signature(function).parameters), arguments, name)
+
+    def test_classes(self):
+        for place, classes in CLASSES.items():
+            module = importlib.import_module(f"pergola.{place}")
+            for word, methods in classes.items():
+                kind = getattr(module, word)
+                self.assertEqual(kind.__module__, module.__name__)
+                for name, arguments in methods.items():
+                    self.assertEqual(list(inspect.signature(vars(kind)[name]).parameters), arguments, name)
+
+    def test_constants(self):
+        for place, constants in CONSTANTS.items():
+            module = importlib.import_module(f"pergola.{place}")
+            for name, number in constants.items():
+                self.assertEqual(getattr(module, name), number)
 
     def test_errors(self):
         module = importlib.import_module("pergola.errors")

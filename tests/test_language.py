@@ -163,6 +163,28 @@ class LanguageTest(unittest.TestCase):
             if isinstance(node.func, ast.Attribute):
                 self.assertIn(node.func.attr, METHODS | own, f"{path} {node.lineno}")
 
+    def test_attributes(self):
+        """No attribute has a name that is barred, or that of a method of its class."""
+        barred = set(
+            "items keys values pop update append clear extend insert remove reverse setdefault sort args encode decode "
+            "hex fromhex format format_map mro".split()
+        )
+        for path, node in self.nodes(ast.ClassDef):
+            methods = {part.name for part in node.body if isinstance(part, ast.FunctionDef)}
+            for part in ast.walk(node):
+                if isinstance(part, ast.Attribute) and not isinstance(part.ctx, ast.Load):
+                    self.assertNotIn(part.attr, barred | methods, f"{path} {part.lineno}")
+
+    def test_local_functions(self):
+        """No parameter or local variable has the name of a function of its file."""
+        for path, tree in self.trees.items():
+            functions = {node.name for node in tree.body if isinstance(node, ast.FunctionDef)}
+            for node in ast.walk(tree):
+                name = node.arg if isinstance(node, ast.arg) else ""
+                if isinstance(node, ast.Name) and not isinstance(node.ctx, ast.Load):
+                    name = node.id
+                self.assertNotIn(name, functions, path)
+
     def test_generator_expressions(self):
         for path, tree in self.trees.items():
             for node in ast.walk(tree):

@@ -1,0 +1,79 @@
+"""The values that trees have, in the order of the least trees that have them."""
+
+from heapq import heappop, heappush
+
+
+def least_makings(signs, step):
+    """Return two lists: the values that trees have, and how their least trees are made.
+
+    `step(sign, parts)` tells the value of the sign with this number over a
+    tuple of values. The values stand in the order of the least trees that
+    have them. Each of these trees is told by the number of its sign and the
+    tuple of the indexes of its parts.
+    """
+    values = []
+    makings = []
+    sizes = []
+    found = {}
+    # The least trees are found in their order, so comparing the indexes of
+    # parts compares the parts.
+    queue = [(1, sign, ()) for sign, (_, arity) in enumerate(signs) if arity == 0]
+    while queue:
+        size, sign, parts = heappop(queue)
+        value = step(sign, tuple([values[part] for part in parts]))
+        if value not in found:
+            found[value] = True
+            values.append(value)
+            makings.append((sign, parts))
+            sizes.append(size)
+            for number, (_, arity) in enumerate(signs):
+                for row in rows_with(len(values) - 1, arity):
+                    heappush(queue, (1 + sum([sizes[part] for part in row]), number, row))
+    return values, makings
+
+
+def rows_with(last, arity):
+    """Return the tuples of so many numbers from 0 to `last` in which `last` stands."""
+    if arity == 0:
+        return []
+    if arity == 1:
+        return [(last,)]
+    rows = [(last, other) for other in range(last + 1)]
+    rows.extend([(other, last) for other in range(last)])
+    return rows
+
+
+def sizes_of(makings):
+    """Return the list of the sizes of trees that are made so."""
+    sizes = []
+    for _, parts in makings:
+        sizes.append(1 + sum([sizes[part] for part in parts]))
+    return sizes
+
+
+def trees_made(signs, makings):
+    """Return the list of the trees that are made so."""
+    trees = []
+    for sign, parts in makings:
+        trees.append((signs[sign][0], *[trees[part] for part in parts]))
+    return trees
+
+
+def needed_for(makings, last):
+    """Return the ascending list of the indexes of the trees that stand within a tree, and of itself."""
+    needed = {last: True}
+    for index in range(last, -1, -1):
+        if index in needed:
+            for part in makings[index][1]:
+                needed[part] = True
+    return sorted(needed)
+
+
+def steps_to(signs, makings, last):
+    """Return the steps that make a tree, each tree within it once."""
+    places = {index: place for place, index in enumerate(needed_for(makings, last))}
+    steps = []
+    for index in places:
+        sign, parts = makings[index]
+        steps.append((signs[sign][0], tuple([places[part] for part in parts])))
+    return tuple(steps)

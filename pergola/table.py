@@ -1,0 +1,114 @@
+"""Tables over books, and the table of a book."""
+
+from pergola.bodies import MARK_BITS, bits_of, words_of
+from pergola.books import floor_of
+from pergola.errors import NotAllowed, TooLarge
+from pergola.floors import floors_of
+from pergola.least import sizes_of, trees_made
+from pergola.order import place_of_sign
+from pergola.terms import MAX_TREE, fold, is_tree
+
+MAX_ROWS = 24
+
+
+def check_table(book, table):
+    """Raise NotAllowed if three tuples are not a table over a book."""
+    signs, marks, _ = book
+    rows, moves, trees = table
+    many = len(rows)
+    if not 1 <= many <= MAX_ROWS:
+        raise NotAllowed("there must be 1 to 24 rows")
+    for row in rows:
+        if row != words_of(marks, bits_of(marks, row)):
+            raise NotAllowed("a row must have different marks of the book, in their order")
+    if len(moves) != len(signs):
+        raise NotAllowed("there must be an entry for each sign")
+    for entry, (_, arity) in zip(moves, signs):
+        if not is_entry(entry, arity, many):
+            raise NotAllowed("an entry must tell the number of a row for all rows")
+    if len(trees) != many or not all([is_tree(signs, tree) for tree in trees]):
+        raise NotAllowed("there must be a tree for each row")
+
+
+def is_entry(value, arity, many):
+    """Return True if a value is an entry for a sign of this arity, with so many rows."""
+    if arity == 0:
+        return isinstance(value, int) and 0 <= value < many
+    if not isinstance(value, tuple) or len(value) != many:
+        return False
+    return all([is_entry(part, arity - 1, many) for part in value])
+
+
+def entry_at(entry, rows):
+    """Return what the entry for a sign has at the rows of its parts."""
+    for row in rows:
+        entry = entry[row]
+    return entry
+
+
+def row_of(signs, moves, term, filling):
+    """Return the number of the row of a term by the moves."""
+    return fold(
+        term,
+        lambda name: filling[name],
+        lambda sign, rows: entry_at(moves[place_of_sign(signs, sign)], rows),
+    )
+
+
+def table_of(book):
+    """Return the table of a book; raise TooLarge if there is none."""
+    return table_on(book, floors_of(book, MAX_ROWS)[-1])
+
+
+def table_on(book, top):
+    """Return the table of a book whose highest floor with marks is worked out."""
+    signs, marks, _ = book
+    if max(sizes_of(top.makings)) > MAX_TREE:
+        raise TooLarge("a least tree has a size above 400")
+    rows = tuple([words_of(marks, value) for value in top.reached])
+    numbers = {value: number for number, value in enumerate(top.reached)}
+    moves = [entry_over(top, numbers, sign, arity, ()) for sign, (_, arity) in enumerate(signs)]
+    return rows, tuple(moves), tuple(trees_made(signs, top.makings))
+
+
+def entry_over(top, numbers, sign, arity, parts):
+    """Return the entry for a sign, given the values of its first parts."""
+    if len(parts) == arity:
+        return numbers[top.step(sign, parts)]
+    return tuple([entry_over(top, numbers, sign, arity, (*parts, value)) for value in numbers])
+
+
+def marks_of(book, tree):
+    """Return the tuple of the marks that a tree has."""
+    rows, moves, _ = table_of(book)
+    return rows[row_of(book[0], moves, tree, {})]
+
+
+def has(book, mark, tree):
+    """Return True if a tree has a mark."""
+    floor_of(book, mark)
+    return mark in marks_of(book, tree)
+
+
+def tuples_of(values, many):
+    """Return the list of all tuples of so many of these values."""
+    tuples = [()]
+    for _ in range(many):
+        tuples = [(*front, value) for front in tuples for value in values]
+    return tuples
+
+
+class Rows:
+    """The rows of a table as a world: a value has the number of a row and its marks."""
+
+    def __init__(self, book, table):
+        rows, moves, _ = table
+        self.moves = moves
+        self.all_rows = [number << MARK_BITS | bits_of(book[1], row) for number, row in enumerate(rows)]
+
+    def step(self, sign, parts):
+        """Return the value of the row that the moves tell."""
+        entry = self.moves[sign]
+        for part in parts:
+            entry = entry[part >> MARK_BITS]
+        return self.all_rows[entry]
