@@ -117,7 +117,7 @@ class Known:
     def follows(self, lemma):
         """Return True if a lemma of the floor follows from those that are known."""
         _, sign, parts, number, steps = lemma
-        rule = self.rule(number)
+        rule = self.ready_rule(number)
         slots = [self.value(part) for part in parts]
         if rule.sign < 0:
             slots = [self.step(place_of_sign(self.signs, sign), tuple(slots))]
@@ -125,7 +125,7 @@ class Known:
             slots.append(self.value_of_steps(steps))
         return rule.holds(self, slots)
 
-    def rule(self, number):
+    def ready_rule(self, number):
         """Return the rule with an index, made ready once."""
         if number not in self.ready:
             self.ready[number] = ReadyRule(self.book, number)
