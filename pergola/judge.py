@@ -81,8 +81,9 @@ def judge_trees(book, table):
     for number in range(1, len(keys)):
         if not keys[number - 1] < keys[number]:
             raise BadPaper("a tree does not come behind the one before it")
+    every = list(range(len(trees)))
     for sign, (_, arity) in enumerate(signs):
-        for numbers in tuples_of(range(len(trees)), arity):
+        for numbers in tuples_of(every, arity):
             if key_over(sign, [keys[number] for number in numbers]) < keys[entry_at(moves[sign], numbers)]:
                 raise BadPaper("a tree comes before the one that is to be the least")
 
@@ -100,9 +101,11 @@ def judge_shown(book, table, lemmas):
     rows, moves, _ = table
     shown = {}
     for mark, sign, parts, _, _ in lemmas:
-        shown[(mark, sign, *[row for row, _ in parts])] = True
+        place = (mark, sign, *[row for row, _ in parts])
+        shown[place] = True
+    every = list(range(len(rows)))
     for number, (sign, arity) in enumerate(book[0]):
-        for numbers in tuples_of(range(len(rows)), arity):
+        for numbers in tuples_of(every, arity):
             for mark in rows[entry_at(moves[number], numbers)]:
                 if (mark, sign, *numbers) not in shown:
                     raise BadPaper("there is no lemma for a mark that the moves tell")

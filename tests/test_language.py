@@ -7,6 +7,8 @@ import re
 import tokenize
 import unittest
 
+import faults
+
 FOLDER = pathlib.Path(__file__).resolve().parent.parent / "pergola"
 FILES = sorted(FOLDER.glob("*.py"))
 
@@ -191,6 +193,15 @@ class LanguageTest(unittest.TestCase):
                 if isinstance(node, (ast.GeneratorExp, ast.Yield, ast.YieldFrom)):
                     self.fail(f"{path} {node.lineno}: take a list")
 
+    def test_what_is_walked_on_the_spot(self):
+        """L23: no range, zip, enumerate, reversed or view of a dict is handed to a function, kept or returned."""
+        for path, source in self.sources.items():
+            self.assertEqual(faults.walked_faults(source), [], path)
+
+    def test_no_star_in_the_brackets_of_a_subscript(self):
+        for path, source in self.sources.items():
+            self.assertEqual(faults.star_faults(source), [], path)
+
     def test_strings(self):
         docs = set()
         for _, node in self.nodes(ast.Module, ast.FunctionDef, ast.ClassDef):
@@ -217,6 +228,39 @@ class LanguageTest(unittest.TestCase):
                     names = [arg.arg for arg in node.args.args]
                     self.assertNotIn(names, lines.setdefault(node.lineno, []), path)
                     lines[node.lineno].append(names)
+
+
+class FaultsTest(unittest.TestCase):
+    """What finds such faults finds them."""
+
+    def test_handed_to_a_function(self):
+        given = ["range(3)", "range(len(xs))", "zip(xs, xs)", "enumerate(xs)", "reversed(xs)"]
+        given += ["d.items()", "d.keys()", "d.values()"]
+        for text in given:
+            for call in [f"own({text})", f"own(xs, {text})", f"own(xs, by={text})", f"box.own({text})", f"own([{text}])"]:
+                source = f"def f(xs, d, box):\n    return {call}\n"
+                self.assertEqual(faults.walked_faults(source), [2], call)
+            self.assertEqual(faults.walked_faults(f"def f(xs, d):\n    return {text}\n"), [2])
+            self.assertEqual(faults.walked_faults(f"def f(xs, d):\n    d[1] = {text}\n"), [2])
+
+    def test_walked(self):
+        for text in ["[x for x in range(3)]", "list(zip(xs, xs))", "own(list(range(3)))", "sorted(d.items())",
+                     "max(range(3))", "len(range(3))", "list(reversed(range(3)))", "2 in range(3)", "sum(d.values())"]:
+            self.assertEqual(faults.walked_faults(f"def f(xs, d):\n    return {text}\n"), [], text)
+        self.assertEqual(faults.walked_faults("def f(xs):\n    for x, y in zip(xs, xs):\n        own(x)\n"), [])
+
+    def test_kept(self):
+        start = "def f(xs):\n    kept = range(3)\n"
+        for row, lines in [("[x for x in kept]", []), ("list(kept)", []), ("len(kept)", []), ("kept[0]", []),
+                           ("own(kept)", [3]), ("kept", [3]), ("[kept]", [3]), ("kept == kept", [3])]:
+            self.assertEqual(faults.walked_faults(f"{start}    return {row}\n"), lines, row)
+        self.assertEqual(faults.walked_faults("def f(xs):\n    kept = zip(xs, xs)\n    own(kept)\n"), [2])
+
+    def test_stars(self):
+        for row, lines in [("d[1, *xs] = 2", [1]), ("d[(1, *xs)] = 2", [1]), ("x = d[own(*xs)]", [1]),
+                           ("d[(1, *[x for x in xs])] = True", [1]), ("x = d[1][*xs]", [1]),
+                           ("x = (1, *xs)", []), ("own(*xs)", []), ("d[place] = [*xs]", []), ("x = (1, *xs) in d", [])]:
+            self.assertEqual(faults.star_faults(row), lines, row)
 
 
 if __name__ == "__main__":
