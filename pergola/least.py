@@ -43,6 +43,40 @@ def rows_with(last, arity):
     return rows
 
 
+class Candidates:
+    """Trees over those that were kept so far, one after another, in the order of trees.
+
+    Trees are told as by `least_makings`. Only those that are kept can be
+    parts of others.
+    """
+
+    def __init__(self, signs):
+        self.signs = signs
+        self.makings = []
+        self.sizes = []
+        self.queue = [(1, sign, ()) for sign, (_, arity) in enumerate(signs) if arity == 0]
+
+    def are_left(self):
+        """Return True if there is a tree that was not taken."""
+        return bool(self.queue)
+
+    def take(self):
+        """Return the size of the next tree, the number of its sign, and the indexes of its parts."""
+        return heappop(self.queue)
+
+    def keep(self, size, sign, parts):
+        """Keep the tree that was taken last."""
+        self.makings.append((sign, parts))
+        self.sizes.append(size)
+        for number, (_, arity) in enumerate(self.signs):
+            for row in rows_with(len(self.sizes) - 1, arity):
+                heappush(self.queue, (1 + sum([self.sizes[part] for part in row]), number, row))
+
+    def tree(self, sign, parts):
+        """Return the tree of a sign over trees that were kept."""
+        return trees_made(self.signs, [*self.makings, (sign, parts)])[-1]
+
+
 def sizes_of(makings):
     """Return the list of the sizes of trees that are made so."""
     sizes = []

@@ -67,15 +67,22 @@ def table_on(book, top):
         raise TooLarge("a least tree has a size above 400")
     rows = tuple([words_of(marks, value) for value in top.reached])
     numbers = {value: number for number, value in enumerate(top.reached)}
-    moves = [entry_over(top, numbers, sign, arity, ()) for sign, (_, arity) in enumerate(signs)]
-    return rows, tuple(moves), tuple(trees_made(signs, top.makings))
+    moves = moves_over(signs, top.reached, lambda sign, parts: numbers[top.step(sign, parts)])
+    return rows, moves, tuple(trees_made(signs, top.makings))
 
 
-def entry_over(top, numbers, sign, arity, parts):
-    """Return the entry for a sign, given the values of its first parts."""
-    if len(parts) == arity:
-        return numbers[top.step(sign, parts)]
-    return tuple([entry_over(top, numbers, sign, arity, (*parts, value)) for value in numbers])
+def moves_over(signs, values, tell):
+    """Return moves that have `tell(sign, parts)` for each number of a sign and all values for its parts."""
+    return tuple([entry_over(arity, values, sign, tell) for sign, (_, arity) in enumerate(signs)])
+
+
+def entry_over(arity, values, sign, tell):
+    """Return the entry for the sign with a number in such moves."""
+    if arity == 0:
+        return tell(sign, ())
+    if arity == 1:
+        return tuple([tell(sign, (value,)) for value in values])
+    return tuple([tuple([tell(sign, (value, other)) for other in values]) for value in values])
 
 
 def marks_of(book, tree):

@@ -5,6 +5,15 @@ from pergola.table import Rows, row_of
 from pergola.terms import names_of
 
 
+class Node:
+    """A saying in its place, with its cells, and the nodes of the sayings that stand directly in it."""
+
+    def __init__(self, saying, cells, parts):
+        self.saying = saying
+        self.cells = cells
+        self.parts = parts
+
+
 class Truths:
     """Sayings over a book, in the rows of its table.
 
@@ -34,20 +43,38 @@ class Truths:
 
     def cells(self, saying, names, values):
         """Return the cells of a saying; the first names have these values, the others may have any."""
+        return self.node(saying, names, values).cells
+
+    def node(self, saying, names, values):
+        """Return the node that a saying is, with all nodes within it, likewise."""
         kind = saying[0]
+        many = len(names) - len(values)
         if kind == "at":
-            return self.cells_at(saying, names, values)
+            return Node(saying, self.cells_at(saying, names, values), [])
         if kind in ("all", "some"):
-            inner = self.cells(saying[2], [*names, saying[1]], values)
-            return self.without_last(kind, inner, len(names) - len(values))
-        full = (1 << self.width(len(names) - len(values))) - 1
-        first = self.cells(saying[1], names, values)
+            inner = self.node(saying[2], [*names, saying[1]], values)
+            return Node(saying, self.without_last(kind, inner.cells, many), [inner])
+        parts = [self.node(part, names, values) for part in saying[1:]]
+        return Node(saying, self.cells_over(kind, parts, many), parts)
+
+    def cells_over(self, kind, parts, many):
+        """Return the cells of "not", "and" or "or" over nodes; there are so many other names."""
+        first = parts[0].cells
         if kind == "not":
+            full = (1 << self.width(many)) - 1
             return [full & ~cell for cell in first]
-        second = self.cells(saying[2], names, values)
         if kind == "and":
-            return [one & other for one, other in zip(first, second)]
-        return [one | other for one, other in zip(first, second)]
+            return [one & other for one, other in zip(first, parts[1].cells)]
+        return [one | other for one, other in zip(first, parts[1].cells)]
+
+    def holds_at(self, node, rows):
+        """Return True if the saying of a node holds, given the numbers of the rows of its other names."""
+        if not rows:
+            return node.cells == [1]
+        at = 0
+        for row in rows[:-1]:
+            at = at * len(self.world.all_rows) + row
+        return node.cells[at] >> rows[-1] & 1 == 1
 
     def without_last(self, kind, cells, many):
         """Return the cells behind a quantifier, given those within it; there are so many other names behind it."""

@@ -59,6 +59,31 @@ FUNCTIONS = {
         "least_filling": ["book", "saying", "names"],
         "parting": ["book", "first", "second", "names"],
     },
+    "papers": {
+        "paper_of": ["book", "saying", "filling"],
+        "judge_paper": ["book", "saying", "filling", "yes", "paper"],
+    },
+    "readers": {
+        "check_reader": ["signs", "reader"],
+        "least_of": ["signs", "reader"],
+        "least_reader": ["book", "marks"],
+        "read_tree": ["signs", "reader", "tree"],
+    },
+    "alike": {"part": ["first", "second", "pairs"], "part_readers": ["signs", "first", "second"]},
+    "counts": {
+        "count_with": ["book", "mark", "size"],
+        "tree_at": ["book", "mark", "size", "index"],
+        "place_of": ["book", "mark", "tree"],
+    },
+    "down": {"down_rules": ["book"], "marks_by_rules": ["signs", "marks", "rules", "tree"]},
+    "games": {
+        "check_game": ["game"],
+        "book_of": ["game"],
+        "options": ["game", "state", "stack"],
+        "at_goal": ["game", "state", "stack"],
+        "winner": ["game", "state", "stack"],
+        "winning": ["game", "state"],
+    },
 }
 
 CLASSES = {
@@ -76,6 +101,17 @@ CLASSES = {
             "advice": ["self"],
         },
     },
+    "plans": {
+        "Plan": {
+            "__init__": ["self", "game", "state", "stack"],
+            "position": ["self"],
+            "winner": ["self"],
+            "options": ["self"],
+            "advice": ["self"],
+            "play": ["self", "index"],
+            "ranks": ["self"],
+        },
+    },
 }
 
 CONSTANTS = {
@@ -83,6 +119,10 @@ CONSTANTS = {
     "table": {"MAX_ROWS": 24},
     "lemmas": {"MAX_STEPS": 600},
     "sayings": {"MAX_NODES": 60, "MAX_NESTED": 4},
+    "papers": {"MAX_PAPER": 3000},
+    "readers": {"MAX_STATES": 24, "MAX_LABEL": 6},
+    "counts": {"MAX_SIZED": 40},
+    "games": {"MAX_STACK": 99},
 }
 
 ERRORS = {
