@@ -126,11 +126,11 @@ class Tries:
     def __init__(self, world, many):
         self.world = world
         self.many = many
-        self.kept = {}
+        self.columns = {}
 
     def forget(self):
         """Forget what came out so far, as the world is another one now."""
-        self.kept = {}
+        self.columns = {}
 
     def where(self, literal, slots):
         """Return the bits of those of the many values with which a literal holds."""
@@ -138,10 +138,10 @@ class Tries:
         if literal.shape == 0:
             return EVERYWHERE if literal.fits(values[0]) else 0
         key = (literal, *values)
-        if key not in self.kept:
+        if key not in self.columns:
             column = column_of(self.world, literal.shape, values, self.many)
-            self.kept[key] = sum([1 << at for at, value in enumerate(column) if literal.fits(value)])
-        return self.kept[key]
+            self.columns[key] = sum([1 << at for at, value in enumerate(column) if literal.fits(value)])
+        return self.columns[key]
 
     def first(self, rule, slots):
         """Return the index of the first of the many values with which a body holds.

@@ -83,7 +83,7 @@ class Known:
         signs, marks, _ = book
         rows, moves, _ = table
         lower = bits_of(marks, [mark for mark, other in marks if other < floor])
-        self.book = book
+        self.rulebook = book
         self.signs = signs
         self.moves = moves
         self.own = bits_of(marks, [mark for mark, other in marks if other == floor])
@@ -94,7 +94,7 @@ class Known:
     def value(self, pair):
         """Return the value of a pair of the number of a row and marks of the floor."""
         row, own = pair
-        return self.starts[row] | bits_of(self.book[1], own)
+        return self.starts[row] | bits_of(self.rulebook[1], own)
 
     def step(self, sign, parts):
         """Return the value of a sign over values, as the moves and the lemmas tell it."""
@@ -110,9 +110,9 @@ class Known:
         """Add a lemma of the floor to those that are known."""
         mark, sign, parts, _, _ = lemma
         rows = [row for row, _ in parts]
-        needed = side_by_side([bits_of(self.book[1], own) for _, own in parts])
+        needed = side_by_side([bits_of(self.rulebook[1], own) for _, own in parts])
         told = self.told.setdefault((place_of_sign(self.signs, sign), *rows), [])
-        told.append((bits_of(self.book[1], (mark,)), needed))
+        told.append((bits_of(self.rulebook[1], (mark,)), needed))
 
     def follows(self, lemma):
         """Return True if a lemma of the floor follows from those that are known."""
@@ -128,7 +128,7 @@ class Known:
     def ready_rule(self, number):
         """Return the rule with an index, made ready once."""
         if number not in self.ready:
-            self.ready[number] = ReadyRule(self.book, number)
+            self.ready[number] = ReadyRule(self.rulebook, number)
         return self.ready[number]
 
     def value_of_steps(self, steps):

@@ -11,14 +11,14 @@ MAX_PAPER = 3000
 def paper_of(book, saying, filling):
     """Return whether a saying holds under a filling, and the paper that shows it."""
     writer = Writer(book, saying, filling)
-    yes = writer.truths.holds_at(writer.node, ())
-    return yes, writer.paper(writer.node, yes, ())
+    yes = writer.truths.holds_at(writer.whole, ())
+    return yes, writer.paper(writer.whole, yes, ())
 
 
 def judge_paper(book, saying, filling, yes, paper):
     """Raise BadPaper if a tuple is not a paper for a saying under a filling."""
     writer = Writer(book, saying, filling)
-    writer.judge(writer.node, yes, (), paper)
+    writer.judge(writer.whole, yes, (), paper)
 
 
 def is_for_all(kind, yes):
@@ -37,13 +37,13 @@ class Writer:
         check_free(saying, filling)
         names = free_names(saying)
         self.truths = Truths(book, table_of(book))
-        self.node = self.truths.node(saying, names, [self.truths.value(filling[name]) for name in names])
+        self.whole = self.truths.node_of(saying, names, [self.truths.value(filling[name]) for name in names])
         self.every = list(range(len(self.truths.world.all_rows)))
         self.written = 0
 
     def paper(self, node, yes, rows):
         """Return the paper for a node that holds, or does not hold if `yes` is False, with these rows."""
-        kind = node.saying[0]
+        kind = node.phrase[0]
         if kind == "not":
             return self.paper(node.parts[0], not yes, rows)
         self.written += 1
@@ -68,7 +68,7 @@ class Writer:
 
     def judge(self, node, yes, rows, paper):
         """Raise BadPaper if an integer or a tuple is not a paper for a node with these rows."""
-        kind = node.saying[0]
+        kind = node.phrase[0]
         if kind == "not":
             self.judge(node.parts[0], not yes, rows, paper)
             return

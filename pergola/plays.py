@@ -67,7 +67,7 @@ def first_trees(truths, cells, many):
     """Return the list of the least trees of the first rows that cells for so many names tell, or None."""
     # Rows stand in the order of their least trees.
     rows = truths.first_row(cells, many)
-    return None if rows is None else [truths.table[2][row] for row in rows]
+    return None if rows is None else [truths.full_table[2][row] for row in rows]
 
 
 class Play:

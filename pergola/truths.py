@@ -9,8 +9,8 @@ class Node:
     """A saying in its place, with its cells, and the nodes of the sayings that stand directly in it."""
 
     def __init__(self, saying, cells, parts):
-        self.saying = saying
-        self.cells = cells
+        self.phrase = saying
+        self.grid = cells
         self.parts = parts
 
 
@@ -25,13 +25,13 @@ class Truths:
     """
 
     def __init__(self, book, table):
-        self.book = book
-        self.table = table
+        self.rulebook = book
+        self.full_table = table
         self.world = Rows(book, table)
 
     def value(self, tree):
         """Return the value of the row that a tree has."""
-        return self.world.all_rows[row_of(self.book[0], self.table[1], tree, {})]
+        return self.world.all_rows[row_of(self.rulebook[0], self.full_table[1], tree, {})]
 
     def holds(self, saying, names, values):
         """Return True if a saying holds, given the values of all its free names."""
@@ -43,38 +43,38 @@ class Truths:
 
     def cells(self, saying, names, values):
         """Return the cells of a saying; the first names have these values, the others may have any."""
-        return self.node(saying, names, values).cells
+        return self.node_of(saying, names, values).grid
 
-    def node(self, saying, names, values):
+    def node_of(self, saying, names, values):
         """Return the node that a saying is, with all nodes within it, likewise."""
         kind = saying[0]
         many = len(names) - len(values)
         if kind == "at":
             return Node(saying, self.cells_at(saying, names, values), [])
         if kind in ("all", "some"):
-            inner = self.node(saying[2], [*names, saying[1]], values)
-            return Node(saying, self.without_last(kind, inner.cells, many), [inner])
-        parts = [self.node(part, names, values) for part in saying[1:]]
+            inner = self.node_of(saying[2], [*names, saying[1]], values)
+            return Node(saying, self.without_last(kind, inner.grid, many), [inner])
+        parts = [self.node_of(part, names, values) for part in saying[1:]]
         return Node(saying, self.cells_over(kind, parts, many), parts)
 
     def cells_over(self, kind, parts, many):
         """Return the cells of "not", "and" or "or" over nodes; there are so many other names."""
-        first = parts[0].cells
+        first = parts[0].grid
         if kind == "not":
             full = (1 << self.width(many)) - 1
             return [full & ~cell for cell in first]
         if kind == "and":
-            return [one & other for one, other in zip(first, parts[1].cells)]
-        return [one | other for one, other in zip(first, parts[1].cells)]
+            return [one & other for one, other in zip(first, parts[1].grid)]
+        return [one | other for one, other in zip(first, parts[1].grid)]
 
     def holds_at(self, node, rows):
         """Return True if the saying of a node holds, given the numbers of the rows of its other names."""
         if not rows:
-            return node.cells == [1]
+            return node.grid == [1]
         at = 0
         for row in rows[:-1]:
             at = at * len(self.world.all_rows) + row
-        return node.cells[at] >> rows[-1] & 1 == 1
+        return node.grid[at] >> rows[-1] & 1 == 1
 
     def without_last(self, kind, cells, many):
         """Return the cells behind a quantifier, given those within it; there are so many other names behind it."""
@@ -90,8 +90,8 @@ class Truths:
         slots = {name: slot for slot, name in enumerate(names)}
         used = [slots[name] for name in names_of(term)]
         last = max([len(values) - 1, *used])
-        bit = bits_of(self.book[1], (mark,))
-        term = numbered(self.book[0], term, slots)
+        bit = bits_of(self.rulebook[1], (mark,))
+        term = numbered(self.rulebook[0], term, slots)
         tries = Tries(self.world, self.world.all_rows)
         if last < len(values):
             cells = [tries.where(Literal(True, bit, term, -1), values) & 1]

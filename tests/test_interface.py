@@ -84,6 +84,11 @@ FUNCTIONS = {
         "winner": ["game", "state", "stack"],
         "winning": ["game", "state"],
     },
+    "gametexts": {"game_text": ["game"], "read_game": ["text"]},
+    "store": {"load_store": ["text"]},
+    "sayingtexts": {"saying_text": ["saying"], "read_saying": ["signs", "marks", "text"]},
+    "lines": {"read_command": ["line"]},
+    "desk": {"run_script": ["script"]},
 }
 
 CLASSES = {
@@ -112,6 +117,39 @@ CLASSES = {
             "ranks": ["self"],
         },
     },
+    "treestore": {
+        "Grove": {
+            "__init__": ["self", "book", "tree"],
+            "tree": ["self"],
+            "subtree": ["self", "path"],
+            "marks_at": ["self", "path"],
+            "paths_with": ["self", "mark"],
+            "paths_where": ["self", "saying", "name"],
+            "least_for": ["self", "path", "saying", "name"],
+            "put": ["self", "path", "tree"],
+            "swap": ["self", "first", "second"],
+            "worked": ["self"],
+            "undo": ["self"],
+        },
+    },
+    "store": {
+        "Store": {
+            "__init__": ["self", "signs", "marks"],
+            "book": ["self"],
+            "rules": ["self"],
+            "kept": ["self"],
+            "row": ["self", "tree"],
+            "change": ["self", "numbers", "rules"],
+            "add": ["self", "rule"],
+            "drop": ["self", "number"],
+            "keep": ["self", "saying"],
+            "let": ["self", "number"],
+            "changes": ["self"],
+            "undo": ["self"],
+            "since": ["self", "point"],
+            "image": ["self"],
+        },
+    },
 }
 
 CONSTANTS = {
@@ -123,6 +161,10 @@ CONSTANTS = {
     "readers": {"MAX_STATES": 24, "MAX_LABEL": 6},
     "counts": {"MAX_SIZED": 40},
     "games": {"MAX_STACK": 99},
+    "gametexts": {"MAX_GAME_TEXT": 4000},
+    "store": {"MAX_KEPT": 8, "MAX_NUMBER": 999999, "MAX_IMAGE": 60000},
+    "sayingtexts": {"MAX_SAYING_TEXT": 6000, "MAX_SAYING": 60, "MAX_NEST": 4, "MAX_GROUPS": 40},
+    "desk": {"MAX_SCRIPT": 4000, "MAX_LINES": 60},
 }
 
 ERRORS = {

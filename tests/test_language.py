@@ -46,6 +46,13 @@ def own_modules():
     return {f"pergola.{path.stem}" for path in FILES}
 
 
+def is_table_of_functions(node, bound):
+    """Whether a node is a dict from plain keys to names that are bound above it."""
+    if not isinstance(node, ast.Dict) or not all(isinstance(key, ast.Constant) for key in node.keys):
+        return False
+    return all(isinstance(part, ast.Name) and part.id in bound for part in node.values)
+
+
 class LanguageTest(unittest.TestCase):
     def setUp(self):
         self.sources = {path: path.read_text(encoding="ascii") for path in FILES}
@@ -122,7 +129,8 @@ class LanguageTest(unittest.TestCase):
                     bound += [alias.name for alias in node.names]
                 elif isinstance(node, ast.Assign):
                     self.assertEqual(len(node.targets), 1)
-                    ast.literal_eval(node.value)
+                    if not is_table_of_functions(node.value, bound):
+                        ast.literal_eval(node.value)
                     bound.append(node.targets[0].id)
                 else:
                     self.assertIsInstance(node, (ast.FunctionDef, ast.ClassDef), path)
@@ -176,6 +184,21 @@ class LanguageTest(unittest.TestCase):
             for part in ast.walk(node):
                 if isinstance(part, ast.Attribute) and not isinstance(part.ctx, ast.Load):
                     self.assertNotIn(part.attr, barred | methods, f"{path} {part.lineno}")
+
+    def test_attributes_of_other_classes(self):
+        """No attribute of any class has the name of a method of another one."""
+        methods = {part.name for _, node in self.nodes(ast.ClassDef) for part in node.body if isinstance(part, ast.FunctionDef)}
+        for path, node in self.nodes(ast.Attribute):
+            if not isinstance(node.ctx, ast.Load):
+                self.assertNotIn(node.attr, methods, f"{path} {node.lineno}")
+
+    def test_stars_in_calls(self):
+        """L7: behind a star in a call stand only names and attributes off a name."""
+        for path, node in self.nodes(ast.Call):
+            for argument in node.args:
+                if isinstance(argument, ast.Starred):
+                    self.assertIsInstance(argument.value, (ast.Name, ast.Attribute), f"{path} {node.lineno}")
+            self.assertTrue(all(keyword.arg for keyword in node.keywords), f"{path} {node.lineno}")
 
     def test_local_functions(self):
         """No parameter or local variable has the name of a function of its file."""

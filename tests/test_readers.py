@@ -177,6 +177,16 @@ class LeastTest(unittest.TestCase):
         least = least_of((("z", 0), ("pair", 2)), reader)
         self.assertEqual(least, (((), ("odd",)), (0, ((1, 1), (0, 0)))))
 
+    def test_told_apart_in_one_place_only(self):
+        """The states 0 and 1 lead to different labels in the first place of a pair, or in the second one, alone."""
+        left = ((2, 2, 2, 2), (3, 3, 3, 3), (2, 2, 2, 2), (2, 2, 2, 2))
+        right = tuple(zip(*left))
+        signs = (("z", 0), ("o", 0), ("pair", 2))
+        for moves in [left, right]:
+            reader = (((), (), (), ("end",)), (0, 1, moves))
+            self.assertEqual(least_of(signs, reader), least_told(signs, reader))
+            self.assertEqual(len(least_of(signs, reader)[0]), 3)
+
     def test_order_of_states(self):
         """States are numbered by their least trees, by size first, then by the order of the signs."""
         reader = ((("a",), ("b",), ("c",), ()), (2, 0, (1, 3, 1, 3)))
