@@ -1,6 +1,6 @@
 """The marks that a book gives, worked out floor by floor."""
 
-from pergola.bodies import ReadyRule, Tries, bits_of
+from pergola.bodies import Tries, bits_of, ready_rules
 from pergola.books import MAX_FLOOR, rules_of_floor
 from pergola.errors import TooLarge
 from pergola.least import least_makings
@@ -36,12 +36,15 @@ class Floor:
 
     def __init__(self, book, number, words, below):
         signs, marks, _ = book
-        rules = [ReadyRule(book, rule) for rule in rules_of_floor(book, number)]
+        rules = ready_rules(book, rules_of_floor(book, number))
         self.signs = signs
         self.below = below
         self.own = bits_of(marks, words)
         self.all_bits = self.own if below is None else self.own | below.all_bits
-        self.rules_for = [[rule for rule in rules if rule.sign in (-1, sign)] for sign in range(len(signs))]
+        by_sign = [[rule for rule in rules if rule.sign in (-1, sign)] for sign in range(len(signs))]
+        self.rules_by_sign = [Choices(some) for some in by_sign]
+        # Then what the rules give hangs on nothing but the values of the parts.
+        self.is_flat = not any([rule.literals for rule in rules])
         self.moves = [{} for _ in signs]
         self.reached = []
         self.makings = []
@@ -68,7 +71,7 @@ class Floor:
             many = len(self.finds)
             values, makings = least_makings(self.signs, self.complete)
             # The further trees that were tried are those of the time before.
-            settled = len(self.finds) == many and values == self.reached
+            settled = self.is_flat or (len(self.finds) == many and values == self.reached)
             self.reached = values
             self.makings = makings
             self.tries = Tries(self, values)
@@ -76,25 +79,56 @@ class Floor:
     def complete(self, sign, parts):
         """Find all marks that follow by now for a sign over values; return its value."""
         value = self.step(sign, parts)
+        rules = self.rules_by_sign[sign].fitting(parts)
         before = -1
         while value != before:
             before = value
-            for rule in self.rules_for[sign]:
+            for rule in rules:
                 if not value & rule.bit and self.try_rule(rule, sign, parts, value):
                     value |= rule.bit
         return value
 
     def try_rule(self, rule, sign, parts, value):
         """Return True if a rule gives its mark to a sign over values, which is noted."""
-        slots = parts if rule.sign >= 0 else (value,)
+        slots = parts
+        if rule.sign < 0:
+            slots = (value,)
+            if not rule.allows(0, value):
+                return False
         at = self.tries.first(rule, slots)
         if at < 0:
             return False
         self.moves[sign][parts] = value | rule.bit
         # Proofs rely on it that a find follows from what is known just then.
-        self.tries.forget()
+        self.tries.forget(sign, parts)
         self.finds.append(Find(rule, sign, parts, self.reached, self.makings, at))
         return True
+
+
+class Choices:
+    """The rules for trees with a sign, of which those are chosen that some values of the parts allow.
+
+    Rules are told by bits, one for each of them in their order. What a rule
+    whose head is a name asks for is not asked here.
+    """
+
+    def __init__(self, rules):
+        self.rules_here = rules
+        self.allowed = [{}, {}]
+        self.lists = {}
+
+    def fitting(self, parts):
+        """Return the list of the rules that allow these values of the parts."""
+        bits = (1 << len(self.rules_here)) - 1
+        for slot, value in enumerate(parts):
+            allowed = self.allowed[slot]
+            if value not in allowed:
+                fits = [rule.sign < 0 or rule.allows(slot, value) for rule in self.rules_here]
+                allowed[value] = sum([1 << at for at, yes in enumerate(fits) if yes])
+            bits &= allowed[value]
+        if bits not in self.lists:
+            self.lists[bits] = [rule for at, rule in enumerate(self.rules_here) if bits >> at & 1]
+        return self.lists[bits]
 
 
 class Find:

@@ -1,27 +1,28 @@
 """The judge of tables and of lists of lemmas."""
 
-from pergola.bodies import ReadyRule, Tries
-from pergola.books import MAX_FLOOR, floor_of
+from pergola.bodies import ready_rules
 from pergola.errors import BadPaper, NotAllowed
-from pergola.lemmas import Known, is_lemma
-from pergola.order import order_key
-from pergola.table import Rows, check_table, entry_at, row_of, tuples_of
+from pergola.lemmas import Forms, Known
+from pergola.order import order_key, place_of_sign
+from pergola.rows import Rows, RowTries
+from pergola.table import check_table, entry_at, row_of, tuples_of
+from pergola.terms import size_of
 
 
 def keeps_rules(book, table):
     """Return True if a table keeps the rules of its book."""
     world = Rows(book, table)
-    tries = Tries(world, world.all_rows)
-    for number in range(len(book[2])):
-        if not keeps_rule(book, world, tries, ReadyRule(book, number)):
-            return False
-    return True
+    tries = RowTries(world)
+    return all([keeps_rule(world, tries, rule) for rule in ready_rules(book, list(range(len(book[2]))))])
 
 
-def keeps_rule(book, world, tries, rule):
+def keeps_rule(world, tries, rule):
     """Return True if the rows of a world keep a rule; `tries` has all of them for a further name."""
-    arity = 1 if rule.sign < 0 else book[0][rule.sign][1]
-    for slots in tuples_of(world.all_rows, arity):
+    rows = [()]
+    for slot in range(len(rule.needed)):
+        allowed = [value for value in world.all_rows if rule.allows(slot, value)]
+        rows = [(*front, value) for front in rows for value in allowed]
+    for slots in rows:
         value = slots[0] if rule.sign < 0 else world.step(rule.sign, slots)
         if not value & rule.bit and tries.first(rule, slots) >= 0:
             return False
@@ -48,16 +49,18 @@ def judge_table(book, table, lemmas):
 def check_lemmas(book, table, lemmas):
     """Raise NotAllowed if something is not a table, or not a list of lemmas over it."""
     check_table(book, table)
+    forms = Forms(book, table)
     for lemma in lemmas:
-        if not is_lemma(book, table, lemma):
+        if not forms.is_good(lemma):
             raise NotAllowed("there is something else than lemmas in the list")
 
 
 def judge_right(book, table, lemmas):
     """Raise BadPaper if one of the lemmas does not follow from those before it."""
-    floors = [Known(book, table, floor) for floor in range(MAX_FLOOR + 1)]
+    floor_by_mark = dict(book[1])
+    floors = {floor: Known(book, table, floor) for floor in floor_by_mark.values()}
     for lemma in lemmas:
-        known = floors[floor_of(book, lemma[0])]
+        known = floors[floor_by_mark[lemma[0]]]
         if not known.follows(lemma):
             raise BadPaper("a lemma does not follow from those before it")
         known.learn(lemma)
@@ -68,32 +71,48 @@ def judge_rows(book, table):
     rows, moves, trees = table
     if len(set(rows)) < len(rows):
         raise BadPaper("two rows are the same")
+    known = []
     for number, tree in enumerate(trees):
-        if row_of(book[0], moves, tree, {}) != number:
+        entry = moves[place_of_sign(book[0], tree[0])]
+        # The trees ahead of this one have the rows that they stand for.
+        parts = [known.index(part) if part in known else row_of(book[0], moves, part, {}) for part in tree[1:]]
+        if entry_at(entry, parts) != number:
             raise BadPaper("a tree does not have the row that it stands for")
+        known.append(tree)
 
 
 def judge_trees(book, table):
     """Raise BadPaper if the trees are not in order, or one of them can be seen not to be the least."""
     signs = book[0]
     _, moves, trees = table
-    keys = [order_key(signs, tree) for tree in trees]
-    for number in range(1, len(keys)):
-        if not keys[number - 1] < keys[number]:
+    sizes = sizes_in(trees)
+    for number in range(1, len(trees)):
+        if sizes[number - 1] >= sizes[number] and not comes_before(signs, trees[number - 1], trees[number]):
             raise BadPaper("a tree does not come behind the one before it")
     every = list(range(len(trees)))
-    for sign, (_, arity) in enumerate(signs):
+    for sign, (word, arity) in enumerate(signs):
         for numbers in tuples_of(every, arity):
-            if key_over(sign, [keys[number] for number in numbers]) < keys[entry_at(moves[sign], numbers)]:
-                raise BadPaper("a tree comes before the one that is to be the least")
+            other = entry_at(moves[sign], numbers)
+            # Most trees here are greater, or the very tree; both is quickly told.
+            if 1 + sum([sizes[number] for number in numbers]) <= sizes[other]:
+                tree = (word, *[trees[number] for number in numbers])
+                if tree != trees[other] and comes_before(signs, tree, trees[other]):
+                    raise BadPaper("a tree comes before the one that is to be the least")
 
 
-def key_over(sign, keys):
-    """Return the key, for the order of trees, of a sign over trees with these keys."""
-    key = [(1 + sum([part[0][0] for part in keys]), sign)]
-    for part in keys:
-        key.extend(part)
-    return key
+def sizes_in(trees):
+    """Return the list of the sizes of trees, many of which have others as their parts."""
+    known = []
+    sizes = []
+    for tree in trees:
+        sizes.append(1 + sum([sizes[known.index(part)] if part in known else size_of(part) for part in tree[1:]]))
+        known.append(tree)
+    return sizes
+
+
+def comes_before(signs, first, second):
+    """Return True if a tree comes before another one, in the order of trees."""
+    return order_key(signs, first) < order_key(signs, second)
 
 
 def judge_shown(book, table, lemmas):

@@ -15,6 +15,8 @@ def least_makings(signs, step):
     makings = []
     sizes = []
     found = {}
+    singles = [sign for sign, (_, arity) in enumerate(signs) if arity == 1]
+    doubles = [sign for sign, (_, arity) in enumerate(signs) if arity == 2]
     # The least trees are found in their order, so comparing the indexes of
     # parts compares the parts.
     queue = [(1, sign, ()) for sign, (_, arity) in enumerate(signs) if arity == 0]
@@ -22,13 +24,18 @@ def least_makings(signs, step):
         size, sign, parts = heappop(queue)
         value = step(sign, tuple([values[part] for part in parts]))
         if value not in found:
+            last = len(values)
             found[value] = True
             values.append(value)
             makings.append((sign, parts))
             sizes.append(size)
-            for number, (_, arity) in enumerate(signs):
-                for row in rows_with(len(values) - 1, arity):
-                    heappush(queue, (1 + sum([sizes[part] for part in row]), number, row))
+            for number in singles:
+                heappush(queue, (1 + size, number, (last,)))
+            for number in doubles:
+                heappush(queue, (1 + size + size, number, (last, last)))
+                for other in range(last):
+                    heappush(queue, (1 + size + sizes[other], number, (last, other)))
+                    heappush(queue, (1 + size + sizes[other], number, (other, last)))
     return values, makings
 
 

@@ -1,48 +1,71 @@
 """Lemmas over a book and a table: what they say, and what follows from them."""
 
-from pergola.bodies import ALL_MARKS, MARK_BITS, ReadyRule, bits_of, words_of
+from pergola.bodies import ALL_MARKS, MARK_BITS, bits_of, mark_bits, ready_rules, sign_numbers, words_of
 from pergola.books import floor_of, further_names
 from pergola.floors import floors_of
-from pergola.order import place_of_sign
 from pergola.proofs import lemmas_on
 from pergola.table import MAX_ROWS, entry_at, table_on
-from pergola.terms import arity_of, fold, number_beside
+from pergola.terms import fold
 
 MAX_STEPS = 600
 
 
 def is_lemma(book, table, lemma):
     """Return True if a tuple of texts, parts, an integer and steps is a lemma."""
-    signs, marks, rules = book
-    mark, sign, parts, rule, steps = lemma
-    floor = number_beside(marks, mark)
-    if floor < 0 or not 0 <= rule < len(rules) or arity_of(signs, sign) != len(parts):
-        return False
-    own = [word for word, other in marks if other == floor]
-    if not all([is_part(own, table[0], part) for part in parts]):
-        return False
-    word, head, _ = rules[rule]
-    if word != mark or (isinstance(head, tuple) and head[0] != sign):
-        return False
-    if not further_names(rules[rule]):
-        return steps == ()
-    return are_steps(signs, steps)
+    return Forms(book, table).is_good(lemma)
 
 
-def is_part(words, rows, part):
-    """Return True if a pair is the number of a row and some of these marks that it has."""
-    row, own = part
-    if not 0 <= row < len(rows):
-        return False
-    return own == tuple([word for word in words if word in rows[row] and word in own])
+class Forms:
+    """What a lemma over a book and a table must be like; what was found out once is kept."""
+
+    def __init__(self, book, table):
+        self.book_told = book
+        self.rows = table[0]
+        self.floors = dict(book[1])
+        self.arities = dict(book[0])
+        self.heads = {}
+        self.parts_seen = {}
+
+    def is_good(self, lemma):
+        """Return True if a tuple of texts, parts, an integer and steps is a lemma."""
+        mark, sign, parts, rule, steps = lemma
+        floor = self.floors.get(mark, -1)
+        if floor < 0 or not 0 <= rule < len(self.book_told[2]) or self.arities.get(sign, -1) != len(parts):
+            return False
+        if not all([self.is_part(floor, row, own) for row, own in parts]):
+            return False
+        word, head, has_further = self.head_of(rule)
+        if word != mark or head not in ("", sign):
+            return False
+        return are_steps(self.arities, steps) if has_further else steps == ()
+
+    def is_part(self, floor, row, own):
+        """Return True if a pair is the number of a row and some marks of a floor that it has."""
+        key = (floor, row, own)
+        if key not in self.parts_seen:
+            self.parts_seen[key] = 0 <= row < len(self.rows) and own == self.marks_among(floor, row, own)
+        return self.parts_seen[key]
+
+    def marks_among(self, floor, row, words):
+        """Return the tuple of the marks of a floor that a row has and that are among some words."""
+        have = self.rows[row]
+        return tuple([mark for mark, other in self.book_told[1] if other == floor and mark in have and mark in words])
+
+    def head_of(self, number):
+        """Return the mark of a rule, the sign of its head or the empty text, and whether it has a further name."""
+        if number not in self.heads:
+            rule = self.book_told[2][number]
+            sign = rule[1][0] if isinstance(rule[1], tuple) else ""
+            self.heads[number] = (rule[0], sign, bool(further_names(rule)))
+        return self.heads[number]
 
 
-def are_steps(signs, steps):
-    """Return True if a tuple of pairs is steps that tell a tree."""
+def are_steps(arities, steps):
+    """Return True if a tuple of pairs is steps that tell a tree; `arities` is a dict with those of the signs."""
     if not 1 <= len(steps) <= MAX_STEPS:
         return False
     for at, (sign, numbers) in enumerate(steps):
-        if arity_of(signs, sign) != len(numbers) or not all([0 <= number < at for number in numbers]):
+        if arities.get(sign, -1) != len(numbers) or not all([0 <= number < at for number in numbers]):
             return False
     return True
 
@@ -53,7 +76,7 @@ def value_of(book, table, lemmas, floor, term, filling):
     value = fold(
         term,
         lambda name: known.value(filling[name]),
-        lambda sign, parts: known.step(place_of_sign(book[0], sign), tuple(parts)),
+        lambda sign, parts: known.step(known.by_sign[sign], tuple(parts)),
     )
     return value >> MARK_BITS, words_of(book[1], value & known.own)
 
@@ -84,17 +107,22 @@ class Known:
         rows, moves, _ = table
         lower = bits_of(marks, [mark for mark, other in marks if other < floor])
         self.rulebook = book
-        self.signs = signs
+        self.by_sign = sign_numbers(signs)
+        self.by_mark = mark_bits(marks)
         self.moves = moves
         self.own = bits_of(marks, [mark for mark, other in marks if other == floor])
-        self.starts = [row << MARK_BITS | (bits_of(marks, words) & lower) for row, words in enumerate(rows)]
+        self.starts = [row << MARK_BITS | (self.bits(words) & lower) for row, words in enumerate(rows)]
         self.told = {}
         self.ready = {}
+
+    def bits(self, words):
+        """Return the bits of some different marks."""
+        return sum([self.by_mark[word] for word in words])
 
     def value(self, pair):
         """Return the value of a pair of the number of a row and marks of the floor."""
         row, own = pair
-        return self.starts[row] | bits_of(self.rulebook[1], own)
+        return self.starts[row] | self.bits(own)
 
     def step(self, sign, parts):
         """Return the value of a sign over values, as the moves and the lemmas tell it."""
@@ -110,9 +138,9 @@ class Known:
         """Add a lemma of the floor to those that are known."""
         mark, sign, parts, _, _ = lemma
         rows = [row for row, _ in parts]
-        needed = side_by_side([bits_of(self.rulebook[1], own) for _, own in parts])
-        told = self.told.setdefault((place_of_sign(self.signs, sign), *rows), [])
-        told.append((bits_of(self.rulebook[1], (mark,)), needed))
+        needed = side_by_side([self.bits(own) for _, own in parts])
+        told = self.told.setdefault((self.by_sign[sign], *rows), [])
+        told.append((self.by_mark[mark], needed))
 
     def follows(self, lemma):
         """Return True if a lemma of the floor follows from those that are known."""
@@ -120,7 +148,7 @@ class Known:
         rule = self.ready_rule(number)
         slots = [self.value(part) for part in parts]
         if rule.sign < 0:
-            slots = [self.step(place_of_sign(self.signs, sign), tuple(slots))]
+            slots = [self.step(self.by_sign[sign], tuple(slots))]
         if steps:
             slots.append(self.value_of_steps(steps))
         return rule.holds(self, slots)
@@ -128,14 +156,14 @@ class Known:
     def ready_rule(self, number):
         """Return the rule with an index, made ready once."""
         if number not in self.ready:
-            self.ready[number] = ReadyRule(self.rulebook, number)
+            self.ready[number] = ready_rules(self.rulebook, [number])[0]
         return self.ready[number]
 
     def value_of_steps(self, steps):
         """Return the value of the tree that steps tell."""
         values = []
         for sign, numbers in steps:
-            values.append(self.step(place_of_sign(self.signs, sign), tuple([values[number] for number in numbers])))
+            values.append(self.step(self.by_sign[sign], tuple([values[number] for number in numbers])))
         return values[-1]
 
 

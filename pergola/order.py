@@ -24,6 +24,7 @@ def order_key(signs, tree):
     are those of the same places in both trees, so the first ones that differ
     are the first parts that differ.
     """
+    places = {sign: place for place, (sign, _) in enumerate(signs)}
     key = []
     sizes = []
     for node in reversed(nodes_of(tree)):
@@ -31,7 +32,7 @@ def order_key(signs, tree):
         for _ in node[1:]:
             size += sizes.pop()
         sizes.append(size)
-        key.append((size, place_of_sign(signs, node[0])))
+        key.append((size, places[node[0]]))
     key.reverse()
     return key
 

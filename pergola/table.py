@@ -1,12 +1,11 @@
 """Tables over books, and the table of a book."""
 
-from pergola.bodies import MARK_BITS, bits_of, words_of
+from pergola.bodies import bits_of, words_of
 from pergola.books import floor_of
 from pergola.errors import NotAllowed, TooLarge
 from pergola.floors import floors_of
 from pergola.least import sizes_of, trees_made
-from pergola.order import place_of_sign
-from pergola.terms import MAX_TREE, fold, is_tree
+from pergola.terms import MAX_DEEP, MAX_TREE, NO_TREE, is_sign_over, measure, nodes_of
 
 MAX_ROWS = 24
 
@@ -26,8 +25,33 @@ def check_table(book, table):
     for entry, (_, arity) in zip(moves, signs):
         if not is_entry(entry, arity, many):
             raise NotAllowed("an entry must tell the number of a row for all rows")
-    if len(trees) != many or not all([is_tree(signs, tree) for tree in trees]):
+    if len(trees) != many or not are_trees(signs, trees):
         raise NotAllowed("there must be a tree for each row")
+
+
+def are_trees(signs, values):
+    """Return True if all of some values are trees."""
+    arities = dict(signs)
+    known = []
+    measures = []
+    for value in values:
+        told = measure_over(arities, value, known, measures)
+        if told == NO_TREE:
+            return False
+        known.append(value)
+        measures.append(told)
+    return True
+
+
+def measure_over(arities, value, known, measures):
+    """Return the size and depth of a tree, or NO_TREE; those of some trees, which may be its parts, are known."""
+    # Least trees have least trees as their parts, so this spares most of the work.
+    if not is_sign_over(arities, value) or not all([part in known for part in value[1:]]):
+        return measure(arities, value)
+    told = [measures[known.index(part)] for part in value[1:]]
+    size = 1 + sum([size for size, _ in told])
+    depth = 1 + max([depth for _, depth in told], default=0)
+    return (size, depth) if size <= MAX_TREE and depth <= MAX_DEEP else NO_TREE
 
 
 def is_entry(value, arity, many):
@@ -48,11 +72,18 @@ def entry_at(entry, rows):
 
 def row_of(signs, moves, term, filling):
     """Return the number of the row of a term by the moves."""
-    return fold(
-        term,
-        lambda name: filling[name],
-        lambda sign, rows: entry_at(moves[place_of_sign(signs, sign)], rows),
-    )
+    entries = {sign: entry for (sign, _), entry in zip(signs, moves)}
+    # Each part of a term is worked out before the term itself.
+    done = []
+    for node in reversed(nodes_of(term)):
+        if isinstance(node, tuple):
+            entry = entries[node[0]]
+            for _ in node[1:]:
+                entry = entry[done.pop()]
+            done.append(entry)
+        else:
+            done.append(filling[node])
+    return done[0]
 
 
 def table_of(book):
@@ -103,19 +134,3 @@ def tuples_of(values, many):
     for _ in range(many):
         tuples = [(*front, value) for front in tuples for value in values]
     return tuples
-
-
-class Rows:
-    """The rows of a table as a world: a value has the number of a row and its marks."""
-
-    def __init__(self, book, table):
-        rows, moves, _ = table
-        self.moves = moves
-        self.all_rows = [number << MARK_BITS | bits_of(book[1], row) for number, row in enumerate(rows)]
-
-    def step(self, sign, parts):
-        """Return the value of the row that the moves tell."""
-        entry = self.moves[sign]
-        for part in parts:
-            entry = entry[part >> MARK_BITS]
-        return self.all_rows[entry]

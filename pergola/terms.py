@@ -8,6 +8,9 @@ MAX_ARITY = 2
 MAX_TREE = 400
 MAX_DEEP = 100
 
+# What is told instead of the size and depth of a tree.
+NO_TREE = (0, 0)
+
 RESERVED = ("sign", "mark", "if", "not", "all", "some", "and", "or", "end")
 
 
@@ -74,9 +77,33 @@ def is_term_within(signs, value, most):
 
 def is_tree(signs, value):
     """Return True if a value is a tree over the signs."""
-    if not is_term_within(signs, value, MAX_TREE):
+    return measure(dict(signs), value) != NO_TREE
+
+
+def measure(arities, value):
+    """Return the size and the depth of a tree, and NO_TREE for a value that is none; `arities` is a dict."""
+    size = 0
+    depth = 0
+    level = [value]
+    while level:
+        size += len(level)
+        depth += 1
+        if size > MAX_TREE or depth > MAX_DEEP:
+            return NO_TREE
+        below = []
+        for node in level:
+            if not is_sign_over(arities, node):
+                return NO_TREE
+            below.extend(node[1:])
+        level = below
+    return size, depth
+
+
+def is_sign_over(arities, value):
+    """Return True if a value is a tuple of a sign and as many values as its arity says."""
+    if not isinstance(value, tuple) or not value or not isinstance(value[0], str):
         return False
-    return depth_of(value) <= MAX_DEEP and not names_of(value)
+    return arities.get(value[0], -1) == len(value) - 1
 
 
 def is_node(signs, value):

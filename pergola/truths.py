@@ -1,7 +1,8 @@
 """The rows of a table with which sayings hold."""
 
-from pergola.bodies import Literal, Tries, bits_of, numbered
-from pergola.table import Rows, row_of
+from pergola.bodies import Literal, bits_of, numbered, sign_numbers
+from pergola.rows import Rows, RowTries
+from pergola.table import row_of
 from pergola.terms import names_of
 
 
@@ -27,7 +28,9 @@ class Truths:
     def __init__(self, book, table):
         self.rulebook = book
         self.full_table = table
+        self.by_sign = sign_numbers(book[0])
         self.world = Rows(book, table)
+        self.tries = RowTries(self.world)
 
     def value(self, tree):
         """Return the value of the row that a tree has."""
@@ -91,26 +94,26 @@ class Truths:
         used = [slots[name] for name in names_of(term)]
         last = max([len(values) - 1, *used])
         bit = bits_of(self.rulebook[1], (mark,))
-        term = numbered(self.rulebook[0], term, slots)
-        tries = Tries(self.world, self.world.all_rows)
+        term = numbered(self.by_sign, term, slots)
+        self.tries.begin_anew()
         if last < len(values):
-            cells = [tries.where(Literal(True, bit, term, -1), values) & 1]
+            cells = [self.tries.where(Literal(True, bit, term, -1), values) & 1]
         else:
-            cells = self.spread(tries, Literal(True, bit, term, last), values, used, last)
+            cells = self.spread(Literal(True, bit, term, last), values, used, last)
         for many in range(last + 1, len(names)):
             cells = self.with_another(cells, many - len(values))
         return cells
 
-    def spread(self, tries, literal, values, used, last):
+    def spread(self, literal, values, used, last):
         """Return the cells of a literal whose last slot is this one, given the values of the first slots."""
         slot = len(values)
         if slot == last:
-            return [tries.where(literal, values)]
+            return [self.tries.where(literal, values)]
         if slot not in used:
-            return self.spread(tries, literal, [*values, 0], used, last) * len(self.world.all_rows)
+            return self.spread(literal, [*values, 0], used, last) * len(self.world.all_rows)
         cells = []
         for value in self.world.all_rows:
-            cells.extend(self.spread(tries, literal, [*values, value], used, last))
+            cells.extend(self.spread(literal, [*values, value], used, last))
         return cells
 
     def with_another(self, cells, many):

@@ -7,10 +7,10 @@ import chance
 import examples
 import told
 from pergola.bookreader import read_book
-from pergola.errors import BadPaper, NotAllowed
+from pergola.errors import BadPaper, NotAllowed, TooLarge
 from pergola.judge import judge_lemmas, judge_table, keeps_rules
 from pergola.lemmas import is_lemma, lemmas_of
-from pergola.table import check_table, table_of
+from pergola.table import check_table, has, marks_of, table_of
 from test_lemmas import EVEN, FIRST, FOURTH, SECOND, TABLE, THIRD, some_lemma
 
 Z = ("z",)
@@ -316,6 +316,34 @@ class JudgeTableTest(unittest.TestCase):
 
 
 class TimeTest(unittest.TestCase):
+    def test_many_books_near_their_bounds(self):
+        """Books with trees of about 400 signs, or 24 rows, which are asked all about their tables."""
+        chooser = random.Random(13)
+        texts = [examples.ROWS24, examples.ROWS25]
+        while len(texts) < 60:
+            sizes = [1]
+            while sizes[-1] < 190 or len(sizes) < 9:
+                sizes.append(sizes[-1] + 1 if chooser.random() < 0.3 or sizes[-1] > 205 else 2 * sizes[-1] + 1)
+            sizes = [*sizes[:10], 2 * sizes[9] + 1] if sizes[9:10] and sizes[9] < 205 else sizes[:11]
+            texts.append(examples.ladder(sizes))
+        start = time.perf_counter()
+        tables = 0
+        for text in texts:
+            book = read_book(text)
+            try:
+                table, lemmas = table_of(book), lemmas_of(book)
+            except TooLarge:
+                continue
+            tables += 1
+            tree = table[2][0]
+            self.assertEqual((marks_of(book, tree), has(book, book[1][0][0], tree)), (table[0][0], book[1][0][0] in table[0][0]))
+            for _ in range(2):
+                self.assertTrue(keeps_rules(book, table))
+                self.assertIsNone(judge_lemmas(book, table, lemmas))
+                self.assertIsNone(judge_table(book, table, lemmas))
+        self.assertGreater(tables, 30)
+        self.assertLess(time.perf_counter() - start, 4)
+
     def test_largest_books(self):
         for text in [examples.LARGE_UP, examples.LARGE_ASIDE, examples.ROWS24]:
             book = read_book(text)

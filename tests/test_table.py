@@ -116,6 +116,41 @@ class CheckTableTest(unittest.TestCase):
             self.allowed(table_of(book), book)
 
 
+    def test_trees_over_one_another(self):
+        """Trees that have trees ahead of them as their parts are no less checked."""
+        def whether(*trees):
+            many = len(trees)
+            table = (plain_table(many)[0], plain_table(many)[1], trees)
+            try:
+                check_table(PLAIN, table)
+                return True
+            except NotAllowed:
+                return False
+
+        full = [Z]
+        for _ in range(7):
+            full.append(("pair", full[-1], full[-1]))
+        self.assertEqual(size_of(full[-1]), 255)
+        self.assertFalse(whether(*full, chain(72, chain(71))))
+        rest = comb(71)
+        self.assertEqual(size_of(rest), 143)
+        self.assertTrue(whether(*full, rest, ("pair", full[-1], rest)))
+        self.assertTrue(whether(*full, rest, ("pair", full[-1], rest), ("s", ("pair", full[-1], rest))))
+        self.assertFalse(whether(*full, rest, ("s", rest), ("pair", full[-1], rest), ("pair", full[-1], ("s", ("s", rest)))))
+        self.assertTrue(whether(full[-1], ("s", rest), ("pair", full[-1], ("s", rest))))
+        self.assertFalse(whether(full[-1], ("s", ("s", rest)), ("pair", full[-1], ("s", ("s", rest)))))
+        self.assertFalse(whether(full[-1], ("pair", full[-1], full[-1])))
+        deep = chain(98)
+        self.assertTrue(whether(deep, ("s", deep)))
+        self.assertFalse(whether(deep, ("s", deep), ("s", ("s", deep))))
+        self.assertFalse(whether(Z, deep, ("s", deep), ("pair", Z, ("s", deep))))
+        self.assertTrue(whether(Z, deep, ("pair", Z, deep)))
+        for wrong in [("s",), ("s", Z, Z), ("pair", Z), ("z", Z), ("no", Z), (Z,), (Z, Z), (), "z", "x", ("s", "x"), ("pair", Z, "z"), ("pair", Z, ()),
+                      ("s", ("no",)), (("s",), Z), ("pair", ("s", Z), ("s",))]:
+            self.assertFalse(whether(Z, ("s", Z), wrong), wrong)
+            self.assertFalse(whether(wrong, Z), wrong)
+
+
 class RowOfTest(unittest.TestCase):
     SIGNS = (("z", 0), ("s", 1), ("pair", 2))
     MOVES = (1, (1, 2, 0), ((0, 1, 2), (2, 2, 1), (0, 2, 0)))
