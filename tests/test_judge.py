@@ -237,6 +237,40 @@ class JudgeTableTest(unittest.TestCase):
             ("no", "s", ((1, ()),), 3, ()),
         ])
 
+    def test_rows_in_any_other_order(self):
+        """A table whose rows are numbered in another way, with its lemmas, is right but for the third point."""
+        chooser = random.Random(38)
+        texts = [examples.UP, examples.ASIDE, examples.FLOORS, examples.ROWS24, examples.SIZE400, *examples.GROWING,
+                 "sign z 0\nsign o 0\nsign s 1\nsign t 1\nmark m 0\nmark n 0\nmark k 0\nm(z)\nn(o)\nk(s(x)) if m(x)\nm(t(x)) if k(x)\n"]
+        for text in texts:
+            book = read_book(text)
+            table, lemmas = table_of(book), lemmas_of(book)
+            many = len(table[0])
+            orders = [chooser.sample(range(many), many) for _ in range(4)]
+            for at in range(many - 1):
+                orders.append([*range(at), at + 1, at, *range(at + 2, many)])
+            orders.append([*range(1, many), 0])
+            for order in orders:
+                other, others = self.numbered_anew(table, lemmas, order)
+                if order == list(range(many)):
+                    self.assertIsNone(judge_table(book, other, others))
+                    continue
+                self.assertTrue(keeps_rules(book, other))
+                self.assertIsNone(judge_lemmas(book, other, others))
+                with self.assertRaises(BadPaper):
+                    judge_table(book, other, others)
+
+    def numbered_anew(self, table, lemmas, order):
+        """The table and lemmas in which the rows stand in this order of their numbers."""
+        new = {row: number for number, row in enumerate(order)}
+
+        def entry(value):
+            return new[value] if isinstance(value, int) else tuple(entry(value[row]) for row in order)
+
+        rows, moves, trees = table
+        shown = tuple(rows[row] for row in order), tuple(entry(value) for value in moves), tuple(trees[row] for row in order)
+        return shown, [(*lemma[:2], tuple((new[row], own) for row, own in lemma[2]), *lemma[3:]) for lemma in lemmas]
+
     def test_trees_that_are_not_the_least(self):
         rows, moves, _ = TABLE
         self.broken([4], EVEN, (rows, moves, (Z, ("s", ("s", ONE)))), LEMMAS)
