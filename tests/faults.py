@@ -96,3 +96,98 @@ def star_faults(source):
         if isinstance(node, ast.Subscript):
             lines += [part.lineno for part in ast.walk(node.slice) if isinstance(part, ast.Starred)]
     return sorted(set(lines))
+
+
+CHANGES = {
+    "append", "clear", "extend", "insert", "pop", "remove", "reverse", "setdefault", "update", "sort", "add", "discard",
+}
+COMPREHENSIONS = (ast.ListComp, ast.DictComp, ast.SetComp)
+
+
+def texts_in(node):
+    """The names and attributes that stand in a node, as texts."""
+    return {ast.unparse(part) for part in ast.walk(node) if isinstance(part, (ast.Name, ast.Attribute))}
+
+
+def changed_in(node):
+    """What a node changes, as texts, each with its line."""
+    changed = []
+    for part in ast.walk(node):
+        if isinstance(part, ast.Call) and isinstance(part.func, ast.Attribute) and part.func.attr in CHANGES:
+            changed.append((ast.unparse(part.func.value), part.lineno))
+        if isinstance(part, ast.Call) and isinstance(part.func, ast.Name) and part.func.id.startswith("heap"):
+            changed.append((ast.unparse(part.args[0]), part.lineno))
+        targets = part.targets if isinstance(part, ast.Assign) else [part.target] if isinstance(part, ast.AugAssign) else []
+        for target in targets:
+            if isinstance(target, ast.Subscript):
+                changed.append((ast.unparse(target.value), part.lineno))
+            elif isinstance(part, ast.AugAssign):
+                changed.append((ast.unparse(target), part.lineno))
+    return changed
+
+
+def loop_faults(source):
+    """The lines in loops and comprehensions that change what these iterate over."""
+    lines = []
+    for node in ast.walk(ast.parse(source)):
+        if isinstance(node, ast.For):
+            texts = texts_in(node.iter)
+            lines += [line for part in node.body + node.orelse for text, line in changed_in(part) if text in texts]
+        if isinstance(node, COMPREHENSIONS):
+            texts = set().union(*[texts_in(part.iter) for part in node.generators])
+            lines += [line for text, line in changed_in(node) if text in texts]
+    return sorted(set(lines))
+
+
+def names_of_comprehension(node):
+    names = [part.id for each in node.generators for part in ast.walk(each.target) if isinstance(part, ast.Name)]
+    return set(names) - {"_"}
+
+
+def nested_faults(source):
+    """The lines of comprehensions within others whose variables have names that are assigned further out."""
+    lines = []
+    for function in ast.walk(ast.parse(source)):
+        if isinstance(function, ast.FunctionDef):
+            whole = [node for node in ast.walk(function) if isinstance(node, COMPREHENSIONS)]
+            within = {id(part) for node in whole for each in node.generators for part in ast.walk(each.target)}
+            outer = {argument.arg for argument in function.args.args}
+            for node in ast.walk(function):
+                if isinstance(node, ast.Name) and isinstance(node.ctx, ast.Store) and id(node) not in within:
+                    outer.add(node.id)
+            for node in whole:
+                for part in ast.walk(node):
+                    if part is not node and isinstance(part, COMPREHENSIONS):
+                        if names_of_comprehension(part) & (outer | names_of_comprehension(node)):
+                            lines.append(part.lineno)
+    return sorted(set(lines))
+
+
+def table_faults(source):
+    """The lines in which a list or dict of the module level is more than read."""
+    tree = ast.parse(source)
+    parents = {id(part): node for node in ast.walk(tree) for part in ast.iter_child_nodes(node)}
+    tables = {node.targets[0].id for node in tree.body if isinstance(node, ast.Assign) and isinstance(node.value, (ast.List, ast.Dict))}
+    lines = []
+    for node in ast.walk(tree):
+        if isinstance(node, ast.Name) and node.id in tables and isinstance(node.ctx, ast.Load):
+            above = parents[id(node)]
+            read = isinstance(above, ast.Subscript) and above.value is node and isinstance(above.ctx, ast.Load)
+            if not read and not isinstance(above, ast.Compare) and not (isinstance(above, ast.Attribute) and above.attr == "get"):
+                lines.append(node.lineno)
+    return lines
+
+
+def set_faults(source):
+    """The lines of sets that are not sorted, measured, compared or asked on the spot."""
+    tree = ast.parse(source)
+    parents = {id(part): node for node in ast.walk(tree) for part in ast.iter_child_nodes(node)}
+    lines = []
+    for node in ast.walk(tree):
+        called = isinstance(node, ast.Call) and isinstance(node.func, ast.Name) and node.func.id == "set"
+        if called or isinstance(node, (ast.Set, ast.SetComp)):
+            above = parents[id(node)]
+            taken = isinstance(above, ast.Call) and isinstance(above.func, ast.Name) and above.func.id in ("len", "sorted")
+            if not taken and not isinstance(above, ast.Compare):
+                lines.append(node.lineno)
+    return lines

@@ -225,6 +225,43 @@ class LanguageTest(unittest.TestCase):
         for path, source in self.sources.items():
             self.assertEqual(faults.star_faults(source), [], path)
 
+    def test_loops_and_comprehensions(self):
+        """L23, L7: nothing that is iterated over is changed, and inner comprehensions have names of their own."""
+        for path, source in self.sources.items():
+            self.assertEqual(faults.loop_faults(source), [], path)
+            self.assertEqual(faults.nested_faults(source), [], path)
+
+    def test_tables_and_sets(self):
+        """L15, L24: lists and dicts of the module level are only read, and sets do not stay."""
+        for path, source in self.sources.items():
+            self.assertEqual(faults.table_faults(source), [], path)
+            self.assertEqual(faults.set_faults(source), [], path)
+
+    def test_is(self):
+        for path, node in self.nodes(ast.Compare):
+            for sign, part in zip(node.ops, node.comparators):
+                if isinstance(sign, (ast.Is, ast.IsNot)):
+                    self.assertIsInstance(part, ast.Constant, f"{path} {node.lineno}")
+
+    def test_errors(self):
+        """Own errors alone are raised, on the spot, and caught."""
+        own = {node.name for path, node in self.nodes(ast.ClassDef) if path.stem == "errors"}
+        for path, node in self.nodes(ast.Raise):
+            self.assertIsInstance(node.exc, ast.Call, f"{path} {node.lineno}")
+            self.assertIn(node.exc.func.id, own, f"{path} {node.lineno}")
+        for path, node in self.nodes(ast.ExceptHandler):
+            for part in node.type.elts if isinstance(node.type, ast.Tuple) else [node.type]:
+                self.assertIn(part.id, own, f"{path} {node.lineno}")
+
+    def test_keywords(self):
+        """No keyword is given to a method, and to builtins only those that they may take."""
+        allowed = {("max", "default"), ("min", "default"), ("enumerate", "start"), ("sum", "start"), ("sorted", "key"), ("sorted", "reverse")}
+        for path, node in self.nodes(ast.Call):
+            for keyword in node.keywords:
+                self.assertIsInstance(node.func, ast.Name, f"{path} {node.lineno}")
+                if node.func.id in ALL_BUILTINS:
+                    self.assertIn((node.func.id, keyword.arg), allowed, f"{path} {node.lineno}")
+
     def test_strings(self):
         docs = set()
         for _, node in self.nodes(ast.Module, ast.FunctionDef, ast.ClassDef):
@@ -284,6 +321,26 @@ class FaultsTest(unittest.TestCase):
                            ("d[(1, *[x for x in xs])] = True", [1]), ("x = d[1][*xs]", [1]),
                            ("x = (1, *xs)", []), ("own(*xs)", []), ("d[place] = [*xs]", []), ("x = (1, *xs) in d", [])]:
             self.assertEqual(faults.star_faults(row), lines, row)
+
+    def test_loops(self):
+        for row, lines in [("for x in xs:\n    xs.append(x)", [2]), ("for k in d.b:\n    d.b[k] = 1", [2]), ("for x in list(xs):\n    ys.append(x)", []),
+                           ("for k, x in enumerate(xs):\n    xs[k] += x", [2]), ("for x in xs:\n    heappush(xs, x)", [2]),
+                           ("y = [xs.pop() for x in xs]", [1]), ("y = [ys.pop() for x in xs]", [])]:
+            self.assertEqual(faults.loop_faults(row), lines, row)
+
+    def test_nested_names(self):
+        for row, lines in [("[[x for x in xs] for z in xs]", [2]), ("[sum([z for z in y]) for y in xs]", []), ("[sum([z for z in y]) for z in xs]", [2]),
+                           ("[sum([xs for xs in y]) for y in xs]", [2]), ("[z for z in xs], [z for z in xs]", [])]:
+            self.assertEqual(faults.nested_faults(f"def f(xs, x):\n    return {row}\n"), lines, row)
+
+    def test_tables(self):
+        for row, lines in [("T[0]", []), ("2 in T", []), ("T.get(1)", []), ("f(T)", [3]), ("T", [3]), ("[T]", [3]), ("T.pop()", [3]), ("x in f(T)", [3])]:
+            self.assertEqual(faults.table_faults(f"T = {{1: 2}}\ndef f(x):\n    return {row}\n"), lines, row)
+
+    def test_sets(self):
+        for row, lines in [("len(set(xs))", []), ("sorted(set(xs))", []), ("set(xs) == set(ys)", []), ("set(xs)", [2]), ("list(set(xs))", [2]),
+                           ("{x for x in xs}", [2]), ("f({1, 2})", [2])]:
+            self.assertEqual(faults.set_faults(f"def f(xs, ys):\n    return {row}\n"), lines, row)
 
 
 if __name__ == "__main__":

@@ -17,11 +17,6 @@ def read(text):
     return read_saying(SIGNS, MARKS, text)
 
 
-def parts_of(saying):
-    """The sayings directly within a saying."""
-    return () if saying[0] == "at" else saying[2:] if saying[0] in ("all", "some") else saying[1:]
-
-
 class TextTest(unittest.TestCase):
     def told(self, saying, text):
         self.assertEqual(saying_text(saying), text)
@@ -63,6 +58,16 @@ class TextTest(unittest.TestCase):
         self.told(("and", ("not", A), ("all", "x", B)), f"not {a} and all x {b}")
         self.told(("and", ("all", "x", A), B), f"all x {a} and {b}")
         self.told(("all", "x", ("not", ("or", ("not", conj), disj))), f"all x not (not ({a} and {b}) or ({a} or {b}))")
+
+    def test_all_kinds_within_all_kinds(self):
+        low = [A]
+        for _ in range(2):
+            high = [A, *[("not", s) for s in low], *[("all", "x", s) for s in low], *[("some", "v", s) for s in low]]
+            low = [*high, *[(kind, s, t) for kind in ("and", "or") for s in low for t in low]]
+        self.assertEqual(len(low), 1 + 3 * 6 + 2 * 36)
+        for inner in low:
+            for saying in [("not", inner), ("all", "y", inner), ("and", inner, B), ("and", B, inner), ("or", inner, B), ("or", B, inner)]:
+                self.assertEqual(read(saying_text(saying)), saying)
 
     def test_left_to_right(self):
         a, b, c = "even(x)", "odd(s(y))", "no(pair(z, x))"
@@ -106,10 +111,6 @@ class TextTest(unittest.TestCase):
                             break
                     without = text[:at] + text[at + 1:end] + text[end + 1:]
                     self.assertNotEqual(read(without), saying)
-
-    def test_kept(self):
-        saying = ("and", A, B)
-        self.assertEqual(saying_text(saying), saying_text(("and", A, B)))
 
 
 class BoundTest(unittest.TestCase):

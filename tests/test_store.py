@@ -529,14 +529,20 @@ class ImageTest(StoreCase):
         book = read_book(examples.LARGE_ASIDE)
         store = Store(*book[:2])
         store.change([], list(book[2]))
+        inner = ("at", "ma", ("pair", ("node", "x", "y"), "u"))
+        for number in range(11):
+            leaf = ("at", f"m{'abcdef'[number % 6]}", ("node", ("pair", "v", ["x", "u"][number % 2]), "y"))
+            inner = (["and", "or"][number % 2], inner, leaf)
+        half = ("all", "x", ("some", "y", ("all", "u", ("some", "v", inner))))
+        wide = ("or", half, ("not", half))
         either = ("or", ("not", ("all", "x", ("some", "y", ("all", "u", ("some", "v", ("at", "ma", "v")))))), ("all", "x", TRUE_LARGE))
         start = time.perf_counter()
-        for _ in range(8):
-            store.keep(either)
+        for saying in [either, *[wide] * 7]:
+            store.keep(saying)
         store.change([1], [book[2][0]])
         image = store.image()
         self.assertEqual(load_store(image).image(), image)
-        self.assertEqual(saying_text(either), store.image().split("\n")[-2].split(" ", 2)[2])
+        self.assertEqual(saying_text(wide), store.image().split("\n")[-2].split(" ", 2)[2])
         self.assertIn(rule_text(book[2][3]), image)
         self.assertEqual(table_of(store.book()), table_of(load_store(image).book()))
         self.assertLess(time.perf_counter() - start, 30)
