@@ -58,7 +58,8 @@ def check_lemmas(book, table, lemmas):
 def judge_right(book, table, lemmas):
     """Raise BadPaper if one of the lemmas does not follow from those before it."""
     floor_by_mark = dict(book[1])
-    floors = {floor: Known(book, table, floor) for floor in floor_by_mark.values()}
+    levels = sorted(set([level for _, level in book[1]]))
+    floors = {floor: Known(book, table, floor) for floor in levels}
     for lemma in lemmas:
         known = floors[floor_by_mark[lemma[0]]]
         if not known.follows(lemma):
