@@ -155,8 +155,8 @@ class ReadyRule:
 
     def holds(self, world, slots):
         """Return True if the body holds with these values of all names."""
-        for slot in range(len(self.needed)):
-            if not self.allows(slot, slots[slot]):
+        for needed, barred, value in zip(self.needed, self.barred, slots):
+            if value & needed != needed or value & barred:
                 return False
         return all([literal.fits(value_in(world, literal.term, slots)) for literal in self.literals])
 

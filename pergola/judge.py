@@ -6,7 +6,6 @@ from pergola.lemmas import Forms, Known
 from pergola.order import order_key, place_of_sign
 from pergola.rows import Rows, RowTries
 from pergola.table import check_table, entry_at, row_of, tuples_of
-from pergola.terms import size_of
 
 
 def keeps_rules(book, table):
@@ -86,34 +85,42 @@ def judge_trees(book, table):
     """Raise BadPaper if the trees are not in order, or one of them can be seen not to be the least."""
     signs = book[0]
     _, moves, trees = table
-    sizes = sizes_in(trees)
-    for number in range(1, len(trees)):
-        if sizes[number - 1] >= sizes[number] and not comes_before(signs, trees[number - 1], trees[number]):
+    keys = keys_in(signs, trees)
+    for number in range(1, len(keys)):
+        if not keys[number - 1] < keys[number]:
             raise BadPaper("a tree does not come behind the one before it")
     every = list(range(len(trees)))
-    for sign, (word, arity) in enumerate(signs):
+    for sign, (_, arity) in enumerate(signs):
         for numbers in tuples_of(every, arity):
-            other = entry_at(moves[sign], numbers)
-            # Most trees here are greater, or the very tree; both is quickly told.
-            if 1 + sum([sizes[number] for number in numbers]) <= sizes[other]:
-                tree = (word, *[trees[number] for number in numbers])
-                if tree != trees[other] and comes_before(signs, tree, trees[other]):
-                    raise BadPaper("a tree comes before the one that is to be the least")
+            parts = [keys[number] for number in numbers]
+            least = keys[entry_at(moves[sign], numbers)]
+            # Most trees here have a greater size, so they need no whole key.
+            if size_over(parts) <= least[0][0] and key_over(sign, parts) < least:
+                raise BadPaper("a tree comes before the one that is to be the least")
 
 
-def sizes_in(trees):
-    """Return the list of the sizes of trees, many of which have others as their parts."""
+def keys_in(signs, trees):
+    """Return the list of the keys of trees for their order; many of them have others as their parts."""
     known = []
-    sizes = []
+    keys = []
     for tree in trees:
-        sizes.append(1 + sum([sizes[known.index(part)] if part in known else size_of(part) for part in tree[1:]]))
+        parts = [keys[known.index(part)] if part in known else order_key(signs, part) for part in tree[1:]]
+        keys.append(key_over(place_of_sign(signs, tree[0]), parts))
         known.append(tree)
-    return sizes
+    return keys
 
 
-def comes_before(signs, first, second):
-    """Return True if a tree comes before another one, in the order of trees."""
-    return order_key(signs, first) < order_key(signs, second)
+def size_over(keys):
+    """Return the size of a tree over trees with these keys."""
+    return 1 + sum([key[0][0] for key in keys])
+
+
+def key_over(sign, keys):
+    """Return the key, for the order of trees, of a sign over trees with these keys."""
+    key = [(size_over(keys), sign)]
+    for part in keys:
+        key.extend(part)
+    return key
 
 
 def judge_shown(book, table, lemmas):

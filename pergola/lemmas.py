@@ -109,6 +109,7 @@ class Known:
         self.rulebook = book
         self.by_sign = sign_numbers(signs)
         self.by_mark = mark_bits(marks)
+        self.bits_kept = {}
         self.moves = moves
         self.own = bits_of(marks, [mark for mark, other in marks if other == floor])
         self.starts = [row << MARK_BITS | (self.bits(words) & lower) for row, words in enumerate(rows)]
@@ -116,8 +117,10 @@ class Known:
         self.ready = {}
 
     def bits(self, words):
-        """Return the bits of some different marks."""
-        return sum([self.by_mark[word] for word in words])
+        """Return the bits of a tuple of different marks."""
+        if words not in self.bits_kept:
+            self.bits_kept[words] = sum([self.by_mark[word] for word in words])
+        return self.bits_kept[words]
 
     def value(self, pair):
         """Return the value of a pair of the number of a row and marks of the floor."""
