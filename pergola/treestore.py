@@ -84,20 +84,21 @@ class Grove:
         """Return the least tree at a path with which a saying would hold for the whole tree, or None."""
         self.check_path(path)
         good = self.good_rows(saying, name)
-        for row, tree in enumerate(self.truths.full_table[2]):
-            if good[self.row_with(path, row)]:
+        for row, tree in zip(self.whole_rows(path), self.truths.full_table[2]):
+            if good[row]:
                 return tree
         return None
 
-    def row_with(self, path, row):
-        """Return the row that the whole tree would have with a tree of this row at a path."""
+    def whole_rows(self, path):
+        """Return the list of the rows that the whole tree would have with trees of all rows at a path."""
+        found = list(range(len(self.truths.full_table[0])))
         for many in range(len(path) - 1, -1, -1):
             above = path[:many]
-            node = self.subtree(above)
-            rows = [self.rows[part] for part in paths_below(node, above)]
-            rows[path[many]] = row
-            row = self.row_over(node[0], rows)
-        return row
+            sign = self.subtree(above)[0]
+            beside = [self.rows[part] for part in paths_below(self.subtree(above), above)]
+            at = path[many]
+            found = [self.row_over(sign, [*beside[:at], row, *beside[at + 1:]]) for row in found]
+        return found
 
     def put(self, path, tree):
         """Replace the subtree at a path by a tree."""
