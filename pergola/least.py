@@ -2,14 +2,17 @@
 
 from heapq import heappop, heappush
 
+from pergola.errors import TooLarge
 
-def least_makings(signs, step):
+
+def least_makings(signs, step, most=None):
     """Return two lists: the values that trees have, and how their least trees are made.
 
     `step(sign, parts)` tells the value of the sign with this number over a
     tuple of values. The values stand in the order of the least trees that
     have them. Each of these trees is told by the number of its sign and the
-    tuple of the indexes of its parts.
+    tuple of the indexes of its parts. If trees have more than `most` values,
+    TooLarge is raised.
     """
     values = []
     makings = []
@@ -25,6 +28,8 @@ def least_makings(signs, step):
         value = step(sign, tuple([values[part] for part in parts]))
         if value not in found:
             last = len(values)
+            if last == most:
+                raise TooLarge(f"there are more than {most} different ones")
             found[value] = True
             values.append(value)
             makings.append((sign, parts))

@@ -89,6 +89,43 @@ FUNCTIONS = {
     "sayingtexts": {"saying_text": ["saying"], "read_saying": ["signs", "marks", "text"]},
     "lines": {"read_command": ["line"]},
     "desk": {"run_script": ["script"]},
+    "turners": {
+        "check_turner": ["turner"],
+        "look_of": ["book"],
+        "turned": ["turner", "tree"],
+        "size_turned": ["turner", "tree"],
+        "counts_at": ["turner", "tree", "path"],
+    },
+    "stands": {
+        "stands_of": ["turner", "reader"],
+        "behind": ["turner", "reader", "label"],
+        "turned_reader": ["turner"],
+    },
+    "fits": {
+        "fit": ["turner", "first", "mark", "second", "other"],
+        "judge_fit": ["turner", "first", "mark", "second", "other", "paper"],
+        "least_into": ["turner", "tree"],
+    },
+    "onebehind": {
+        "one_of": ["first", "second"],
+        "one_of_all": ["turners"],
+        "judge_one": ["first", "second", "third", "paper"],
+        "paper_of_one": ["first", "second"],
+    },
+    "copies": {
+        "growth": ["turner"],
+        "growth_paper": ["turner"],
+        "count_paper": ["turner"],
+        "judge_growth": ["turner", "paper"],
+        "judge_counts": ["turner", "number", "paper"],
+    },
+    "samples": {
+        "is_surrounding": ["signs", "value"],
+        "make": ["surrounding", "tree"],
+        "check_sample": ["signs", "sample"],
+        "fits": ["signs", "reader", "sample"],
+        "parts_of": ["signs", "sample"],
+    },
 }
 
 CLASSES = {
@@ -165,6 +202,11 @@ CONSTANTS = {
     "store": {"MAX_KEPT": 8, "MAX_NUMBER": 999999, "MAX_IMAGE": 60000},
     "sayingtexts": {"MAX_SAYING_TEXT": 6000, "MAX_SAYING": 60, "MAX_NEST": 4, "MAX_GROUPS": 40},
     "desk": {"MAX_SCRIPT": 4000, "MAX_LINES": 60},
+    "turners": {"MAX_PIECE": 24, "MAX_TURNING": 8},
+    "stands": {"MAX_STANDS": 24},
+    "fits": {"MAX_TRIPLES": 120},
+    "copies": {"MAX_COUNTS": 2000},
+    "samples": {"MAX_SAMPLE": 5000},
 }
 
 ERRORS = {
