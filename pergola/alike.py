@@ -52,16 +52,16 @@ class Search:
         self.start = len(first[0])
         self.ties = list(range(len(self.labels)))
         self.trees = Candidates(signs)
-        self.states = []
+        self.state_pairs = []
 
     def parts_here(self, size, sign, parts):
         """Return True if this tree parts the readers; keep it if it is to be kept."""
-        one = entry_at(self.moves[0][sign], [self.states[at][0] for at in parts])
-        other = entry_at(self.moves[1][sign], [self.states[at][1] for at in parts])
+        one = entry_at(self.moves[0][sign], [self.state_pairs[at][0] for at in parts])
+        other = entry_at(self.moves[1][sign], [self.state_pairs[at][1] for at in parts])
         low = self.ties[one]
         high = self.ties[self.start + other]
         if low != high:
             self.ties = [low if tie == high else tie for tie in self.ties]
             self.trees.keep(size, sign, parts)
-            self.states.append((one, other))
+            self.state_pairs.append((one, other))
         return self.labels[one] != self.labels[self.start + other]

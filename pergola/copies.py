@@ -11,7 +11,7 @@ MAX_COUNTS = 2000
 def growth(turner):
     """Return how the copies grow: a word, and the greatest copies, the power, or 0."""
     steps = Steps(turner)
-    growths = Growths(steps)
+    growths = growths_of(steps)
     if growths.doubling() is not None:
         return "beyond", 0
     power = growths.power()
@@ -20,23 +20,29 @@ def growth(turner):
     return "bounded", max([sum(counts) for _, counts in pairs_met(steps)], default=0)
 
 
+def growths_of(steps):
+    """Return how the counts grow along steps, from those where the state 0 turns trees."""
+    return Growths([(stand, 0) for stand in steps.starts], steps.moves_from)
+
+
 def growth_paper(turner):
     """Return a right growth paper."""
-    growths = Growths(Steps(turner))
+    growths = growths_of(Steps(turner))
     doubling = growths.doubling()
     if doubling is not None:
-        state, outer, inner = doubling
-        return state, state, outer, inner
+        node, inner = doubling
+        return node[1], node[1], tuple(growths.way_to(node)), tuple(inner)
     rising = growths.rising()
     if rising is None:
         raise Missing("the copies are bounded")
-    return rising
+    node, other, inner = rising
+    return node[1], other[1], tuple(growths.way_to(node)), tuple(inner)
 
 
 def count_paper(turner):
     """Return the count paper of a turner whose copies are bounded."""
     steps = Steps(turner)
-    growths = Growths(steps)
+    growths = growths_of(steps)
     if growths.doubling() is not None or growths.power():
         raise Missing("the copies are not bounded")
     return tuple(sorted(pairs_met(steps)))

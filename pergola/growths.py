@@ -1,22 +1,23 @@
 """How counts grow along steps: bounded, like a power, or beyond all powers.
 
-A *node* is a pair of the number of a stand and a state that is called there,
-when the state 0 turns some tree.
+A *node* is a pair of the number of a stand and a state. From each stand there
+is a list of moves: the number of another stand, a tuple that has for each
+state a tuple with the number of the calls of each state there, and a step.
 """
 
 from pergola.graphs import Components, shortest_way
 
 
 class Growths:
-    """The nodes of a turner's steps, and the ways between them on which counts grow."""
+    """The nodes that are reached from some nodes by moves, and the ways between them on which counts grow."""
 
-    def __init__(self, steps):
-        self.steps = steps
-        self.starts = [(stand, 0) for stand in steps.starts]
+    def __init__(self, first_nodes, moves_from):
+        self.first_nodes = first_nodes
+        self.moves_from = moves_from
         # For each move, the states that are called, for each state.
-        self.called = [[states_called(calls) for _, calls, _ in moves] for moves in steps.moves_from]
-        self.groups = Components(self.starts, self.after)
-        self.inside = [self.calls_inside(stand) for stand in range(len(steps.stands))]
+        self.called = [[states_called(calls) for _, calls, _ in moves] for moves in moves_from]
+        self.groups = Components(first_nodes, self.after)
+        self.inside = [self.calls_inside(stand) for stand in range(len(moves_from))]
 
     def after(self, node):
         """Return the list of the next nodes of a node."""
@@ -26,19 +27,19 @@ class Growths:
         """Return the list of the pairs of a step and the node to which it leads from a node."""
         stand, state = node
         found = []
-        for (to, _, step), called in zip(self.steps.moves_from[stand], self.called[stand]):
+        for (to, _, step), called in zip(self.moves_from[stand], self.called[stand]):
             found.extend([(step, (to, other)) for other in called[state]])
         return found
 
     def way_to(self, node):
-        """Return the tuple of the steps of a way to a node from one with the state 0."""
-        return tuple(shortest_way(self.starts, node, self.steps_after))
+        """Return the list of the steps of a shortest way to a node from one of the first nodes."""
+        return shortest_way(self.first_nodes, node, self.steps_after)
 
     def calls_inside(self, stand):
         """Return for each move from a stand the states that are called by each state, if the nodes are of one group."""
         numbers = self.groups.numbers
         found = []
-        for (to, _, _), called in zip(self.steps.moves_from[stand], self.called[stand]):
+        for (to, _, _), called in zip(self.moves_from[stand], self.called[stand]):
             row = []
             for state, others in enumerate(called):
                 # The state may be called nowhere at this stand.
@@ -48,17 +49,17 @@ class Growths:
         return found
 
     def doubling(self):
-        """Return a state and ways to and along which it is called once, and then twice; None if there are none."""
+        """Return a node and a way on which it calls itself twice or more, or None."""
         tried = {}
         for node in self.groups.numbers:
             group = self.groups.numbers[node]
             if group not in tried:
                 tried[group] = True
-                # If one node of a group is called twice on the way to itself, then all are.
+                # If one node of a group calls itself twice on some way, then all do.
                 stand, state = node
-                inner = shortest_way([(stand, state, state, 0)], (stand, state, state, 1), self.pairs_after)
-                if inner is not None:
-                    return state, self.way_to(node), tuple(inner)
+                way = shortest_way([(stand, state, state, 0)], (stand, state, state, 1), self.pairs_after)
+                if way is not None:
+                    return node, way
         return None
 
     def pairs_after(self, pair):
@@ -68,7 +69,7 @@ class Growths:
         """
         stand, one, other, split = pair
         found = []
-        for (to, calls, step), inside in zip(self.steps.moves_from[stand], self.inside[stand]):
+        for (to, calls, step), inside in zip(self.moves_from[stand], self.inside[stand]):
             for low in inside[one]:
                 for high in inside[other]:
                     twice = one == other and calls[one][low] > 1
@@ -98,8 +99,8 @@ class Growths:
         numbers = self.groups.numbers
         found = []
         for stand, one in numbers:
-            for other in range(len(self.steps.all_sides)):
-                if (stand, other) in numbers and numbers[(stand, other)] < numbers[(stand, one)]:
+            for place, other in numbers:
+                if place == stand and numbers[(stand, other)] < numbers[(stand, one)]:
                     found.append((stand, one, other))
         return found
 
@@ -121,7 +122,7 @@ class Growths:
         numbers = self.groups.numbers
         lowest = numbers[(stand, other)]
         found = []
-        for (to, _, step), called, inside in zip(self.steps.moves_from[stand], self.called[stand], self.inside[stand]):
+        for (to, _, step), called, inside in zip(self.moves_from[stand], self.called[stand], self.inside[stand]):
             highs = inside[other]
             if inside[one] and highs:
                 middles = [state for state in called[between] if numbers[(to, state)] >= lowest]
@@ -129,10 +130,10 @@ class Growths:
         return found
 
     def rising(self):
-        """Return two states, and ways to the first one and along which it calls both; None if there are none."""
+        """Return two nodes and a way on which the first one calls both and the second one itself, or None."""
         for stand, one, other in self.rises():
-            inner = shortest_way([(stand, one, one, other)], (stand, one, other, other), self.triple_steps)
-            return one, other, self.way_to((stand, one)), tuple(inner)
+            way = shortest_way([(stand, one, one, other)], (stand, one, other, other), self.triple_steps)
+            return (stand, one), (stand, other), way
         return None
 
     def power(self):

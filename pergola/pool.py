@@ -12,9 +12,11 @@ class Pool:
 
     def __init__(self, signs):
         self.places = sign_numbers(signs)
+        self.words = [sign for sign, _ in signs]
         self.numbers = {}
         self.makings = []
         self.sizes = []
+        self.made = []
 
     def number_for(self, tree):
         """Return the number of a tree; all trees within it get numbers, too."""
@@ -45,6 +47,13 @@ class Pool:
             self.makings.append(key)
             self.sizes.append(1 + sum([self.sizes[part] for part in parts]))
         return self.numbers[key]
+
+    def tree(self, number):
+        """Return the tree with a number."""
+        missing = self.makings[len(self.made):number + 1]
+        for sign, parts in missing:
+            self.made.append((self.words[sign], *[self.made[part] for part in parts]))
+        return self.made[number]
 
     def in_order(self):
         """Return the list of the numbers of all trees, in the order of trees."""

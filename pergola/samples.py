@@ -54,5 +54,4 @@ def parts_of(signs, sample):
     pool = Pool(signs)
     for tree, _ in sample:
         pool.number_for(tree)
-    trees = told_over(pool.makings, lambda sign, parts: (signs[sign][0], *parts))
-    return [trees[number] for number in pool.in_order()]
+    return [pool.tree(number) for number in pool.in_order()]

@@ -126,6 +126,47 @@ FUNCTIONS = {
         "fits": ["signs", "reader", "sample"],
         "parts_of": ["signs", "sample"],
     },
+    "sortings": {
+        "first_sorting": ["signs", "sample", "most"],
+        "reader_of": ["signs", "sample", "sorting"],
+        "least_fit": ["signs", "sample", "most"],
+        "possible_labels": ["signs", "labels", "sample", "tree", "most"],
+    },
+    "forcing": {
+        "forcing_of": ["signs", "reader"],
+        "judge_forcing": ["signs", "reader", "sample", "paper"],
+    },
+    "pickers": {
+        "check_picker": ["signs", "picker"],
+        "counts_of": ["signs", "picker", "tree"],
+        "count_ways": ["signs", "picker", "tree"],
+        "is_way": ["signs", "picker", "tree", "way"],
+        "way_at": ["signs", "picker", "tree", "number"],
+        "number_of": ["signs", "picker", "tree", "way"],
+        "ways_of": ["signs", "picker", "tree"],
+        "taken_reader": ["signs", "picker"],
+        "known_reader": ["signs", "picker"],
+    },
+    "fewways": {
+        "more_than": ["signs", "picker", "most"],
+        "few_paper": ["signs", "picker", "most"],
+        "judge_few": ["signs", "picker", "most", "paper"],
+    },
+    "spread": {
+        "led": ["signs", "picker", "surrounding"],
+        "useful_states": ["signs", "picker"],
+        "spread": ["signs", "picker"],
+        "spread_paper": ["signs", "picker"],
+        "judge_spread": ["signs", "picker", "paper"],
+        "times_for": ["signs", "picker", "paper", "most"],
+        "bound_paper": ["signs", "picker"],
+        "judge_bound": ["signs", "picker", "number", "paper"],
+    },
+    "sameways": {
+        "parted_ways": ["signs", "first", "second"],
+        "same_paper": ["signs", "first", "second"],
+        "judge_same": ["signs", "first", "second", "paper"],
+    },
 }
 
 CLASSES = {
@@ -152,6 +193,20 @@ CLASSES = {
             "advice": ["self"],
             "play": ["self", "index"],
             "ranks": ["self"],
+        },
+    },
+    "learners": {
+        "Learner": {
+            "__init__": ["self", "signs"],
+            "question": ["self"],
+            "tell": ["self", "label"],
+            "agree": ["self"],
+            "differ": ["self", "tree", "label"],
+            "is_done": ["self"],
+            "reader": ["self"],
+            "paper": ["self"],
+            "sample": ["self"],
+            "states": ["self"],
         },
     },
     "treestore": {
@@ -207,6 +262,12 @@ CONSTANTS = {
     "fits": {"MAX_TRIPLES": 120},
     "copies": {"MAX_COUNTS": 2000},
     "samples": {"MAX_SAMPLE": 5000},
+    "sortings": {"MAX_TRIES": 20000},
+    "forcing": {"MAX_FORCED": 8},
+    "learners": {"MAX_LEARNED": 10},
+    "pickers": {"MAX_PICKED": 6, "MAX_SHOWN": 500},
+    "fewways": {"MAX_MOST": 9, "MAX_CAPPED": 80},
+    "spread": {"MAX_MET": 200},
 }
 
 ERRORS = {
