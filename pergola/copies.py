@@ -1,9 +1,9 @@
 """How often parts are copied by a turner, and papers of either side."""
 
 from pergola.errors import BadPaper, Missing, TooLarge
-from pergola.fits import is_ascending
 from pergola.growths import Growths
 from pergola.steps import Steps, counts_along, counts_from
+from pergola.table import is_ascending
 
 MAX_COUNTS = 2000
 

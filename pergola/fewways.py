@@ -1,8 +1,8 @@
 """Pickers by which no tree has more than so many ways."""
 
 from pergola.errors import BadPaper, Missing, NotAllowed
-from pergola.fits import is_ascending, tree_made
-from pergola.table import tuples_of
+from pergola.least import tree_made
+from pergola.table import is_ascending, tuples_of
 from pergola.ways import Capped, good_ways
 
 MAX_MOST = 9

@@ -3,11 +3,10 @@
 from pergola.books import floor_of
 from pergola.errors import BadPaper, NotAllowed, TooLarge
 from pergola.follow import NOT_TURNED, Follow
-from pergola.least import least_makings, sizes_of, trees_made
+from pergola.least import least_makings, tree_made
 from pergola.pool import Pool
 from pergola.stands import MAX_STANDS
-from pergola.table import entry_at, moves_over, table_of, tuples_of
-from pergola.terms import MAX_TREE
+from pergola.table import entry_at, is_ascending, moves_over, table_of, tuples_of
 
 MAX_TRIPLES = 120
 # A reader needs one state more, for all other trees.
@@ -67,13 +66,6 @@ def fit(turner, first, mark, second, other):
     return "fits", tuple(sorted(triples))
 
 
-def tree_made(signs, makings, number):
-    """Return one of the trees that are made so; raise TooLarge if its size is above 400."""
-    if sizes_of(makings)[number] > MAX_TREE:
-        raise TooLarge("the least tree has a size above 400")
-    return trees_made(signs, makings[:number + 1])[number]
-
-
 def judge_fit(turner, first, mark, second, other, paper):
     """Raise BadPaper if a tuple of triples is not a right paper that no tree fails."""
     kept = Kept(turner, first, mark, second, other)
@@ -88,11 +80,6 @@ def judge_fit(turner, first, mark, second, other, paper):
         for triples in tuples_of(paper, arity):
             if kept.triple(sign, triples) not in present:
                 raise BadPaper("a triple that follows is left out")
-
-
-def is_ascending(values):
-    """Return True if each of some values is less than the next one."""
-    return all([values[at] < values[at + 1] for at in range(len(values) - 1)])
 
 
 def least_into(turner, tree):

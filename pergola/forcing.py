@@ -5,7 +5,6 @@ from pergola.errors import BadPaper, TooLarge
 from pergola.least import least_makings
 from pergola.pool import Pool, told_over
 from pergola.readers import kinds_of, least_of
-from pergola.samples import fits
 from pergola.table import entry_at, row_of, tuples_of
 
 MAX_FORCED = 8
@@ -14,9 +13,9 @@ MAX_FORCED = 8
 def judge_forcing(signs, reader, sample, paper):
     """Raise BadPaper if a pair of trees and surroundings is not a right paper that a sample forces a reader."""
     trees, surroundings = paper
-    if not fits(signs, reader, sample):
-        raise BadPaper("the reader does not fit the sample")
     labelled = Labelled(signs, sample, surroundings)
+    if not labelled.is_fit(reader):
+        raise BadPaper("the reader does not fit the sample")
     numbers = [labelled.pool.number_for(tree) for tree in trees]
     if not numbers or not all([number in labelled.labels for number in numbers]):
         raise BadPaper("there must be trees of the sample")
@@ -55,6 +54,12 @@ class Labelled:
         self.pool = Pool(signs)
         self.labels = {self.pool.number_for(tree): label for tree, label in sample}
         self.contexts = [context_of(self.pool, surrounding) for surrounding in surroundings]
+
+    def is_fit(self, reader):
+        """Return True if a reader tells of each tree of the sample the label that the sample has for it."""
+        labels, moves = reader
+        states = told_over(self.pool.makings, lambda sign, parts: entry_at(moves[sign], parts))
+        return all([labels[states[number]] == label for number, label in self.labels.items()])
 
     def row(self, number):
         """Return the labels that the sample has for what the surroundings make of a tree, None where it has none."""

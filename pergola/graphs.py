@@ -5,21 +5,6 @@ that returns a list.
 """
 
 
-def reached_from(starts, after):
-    """Return the list of the nodes that are reached from some nodes, these included; `after` tells the next nodes."""
-    found = {start: True for start in starts}
-    order = list(found)
-    at = 0
-    while at < len(order):
-        here = order[at]
-        for node in after(here):
-            if node not in found:
-                found[node] = True
-                order.append(node)
-        at += 1
-    return order
-
-
 def shortest_way(starts, goal, after):
     """Return the list of the steps of a shortest way from one of some nodes to another one, None if there is none.
 

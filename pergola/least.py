@@ -3,6 +3,7 @@
 from heapq import heappop, heappush
 
 from pergola.errors import TooLarge
+from pergola.terms import MAX_TREE
 
 
 def least_makings(signs, step, most=None):
@@ -103,6 +104,13 @@ def trees_made(signs, makings):
     for sign, parts in makings:
         trees.append((signs[sign][0], *[trees[part] for part in parts]))
     return trees
+
+
+def tree_made(signs, makings, number):
+    """Return one of the trees that are made so; raise TooLarge if its size is above 400."""
+    if sizes_of(makings)[number] > MAX_TREE:
+        raise TooLarge("the least tree has a size above 400")
+    return trees_made(signs, makings[:number + 1])[number]
 
 
 def needed_for(makings, last):

@@ -57,16 +57,23 @@ class Pool:
 
     def in_order(self):
         """Return the list of the numbers of all trees, in the order of trees."""
+        many = len(self.sizes)
         by_size = {}
         for number, size in enumerate(self.sizes):
             by_size.setdefault(size, []).append(number)
-        ranks = [0] * len(self.sizes)
+        ranks = [0] * many
         order = []
         for size in sorted(by_size):
-            # The parts are lesser trees, so their ranks are known.
-            rows = [(self.makings[number], number) for number in by_size[size]]
-            rows = sorted([(sign, [ranks[part] for part in parts], number) for (sign, parts), number in rows])
-            for _, _, number in rows:
+            # The parts are lesser trees, so their ranks are known. One
+            # integer for the sign, these ranks and the number is quickly sorted.
+            keys = []
+            for number in by_size[size]:
+                sign, parts = self.makings[number]
+                first = ranks[parts[0]] if parts else 0
+                second = ranks[parts[1]] if len(parts) == 2 else 0
+                keys.append(((sign * many + first) * many + second) * many + number)
+            for key in sorted(keys):
+                number = key - key // many * many
                 ranks[number] = len(order)
                 order.append(number)
         return order

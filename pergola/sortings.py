@@ -1,6 +1,7 @@
 """Sortings of samples, the readers that they tell, and the labels that are possible."""
 
 from pergola.errors import Missing, NotAllowed
+from pergola.pool import Pool
 from pergola.readers import MAX_STATES
 from pergola.table import moves_over
 from pergola.tries import SampleParts, Search
@@ -11,7 +12,18 @@ MAX_TRIES = 20000
 def first_sorting(signs, sample, most):
     """Return the first sorting of a sample with at most so many states, and None if there is none."""
     check_most(most)
-    parts = SampleParts(signs, sample)
+    return sorting_of(sample_parts(signs, sample), most)
+
+
+def sample_parts(signs, sample):
+    """Return the parts of a sample."""
+    pool = Pool(signs)
+    numbers = [pool.number_for(tree) for tree, _ in sample]
+    return SampleParts(signs, pool, numbers, [label for _, label in sample])
+
+
+def sorting_of(parts, most):
+    """Return the first sorting of these parts with at most so many states, and None if there is none."""
     return Search(parts, parts.given, most, MAX_TRIES).find()
 
 
@@ -23,7 +35,7 @@ def check_most(most):
 
 def reader_of(signs, sample, sorting):
     """Return the reader of a sorting of a sample."""
-    return reader_over(SampleParts(signs, sample), sorting)
+    return reader_over(sample_parts(signs, sample), sorting)
 
 
 def reader_over(parts, sorting):
@@ -42,9 +54,9 @@ def reader_over(parts, sorting):
 def least_fit(signs, sample, most):
     """Return the reader of the first sorting with the least number of states, which is at most `most`."""
     check_most(most)
-    parts = SampleParts(signs, sample)
+    parts = sample_parts(signs, sample)
     for states in range(1, most + 1):
-        sorting = Search(parts, parts.given, states, MAX_TRIES).find()
+        sorting = sorting_of(parts, states)
         if sorting is not None:
             return reader_over(parts, sorting)
     raise Missing("no reader with so many states fits the sample")
@@ -52,13 +64,18 @@ def least_fit(signs, sample, most):
 
 def possible_labels(signs, labels, sample, tree, most):
     """Return the tuple of those labels that a tree may have by readers that fit a sample."""
-    if first_sorting(signs, sample, most) is None:
+    check_most(most)
+    pool = Pool(signs)
+    numbers = [pool.number_for(other) for other, _ in sample]
+    known = [label for _, label in sample]
+    if sorting_of(SampleParts(signs, pool, numbers, known), most) is None:
         raise Missing("no reader with so many states fits the sample")
-    parts = SampleParts(signs, (*sample, (tree, ())))
-    place = parts.tree_places[-1]
-    if place in parts.tree_places[:-1]:
-        own = sample[parts.tree_places.index(place)][1]
+    number = pool.number_for(tree)
+    if number in numbers:
+        own = known[numbers.index(number)]
         return tuple([label for label in labels if label == own])
+    parts = SampleParts(signs, pool, [*numbers, number], [*known, ()])
+    place = parts.tree_places[-1]
     had = {label: True for _, label in sample}
     answers = {}
     for label in labels:

@@ -1,12 +1,11 @@
 """How the numbers of ways of trees grow, and papers of either side."""
 
 from pergola.errors import BadPaper, Missing
-from pergola.fits import is_ascending
 from pergola.leads import Leads, lead_of
 from pergola.least import least_makings
 from pergola.powers import first_beyond
 from pergola.samples import is_surrounding
-from pergola.table import tuples_of
+from pergola.table import is_ascending, tuples_of
 from pergola.ways import Ways, counts_over, good_ways
 
 MAX_MET = 200

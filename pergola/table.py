@@ -134,3 +134,8 @@ def tuples_of(values, many):
     for _ in range(many):
         tuples = [(*front, value) for front in tuples for value in values]
     return tuples
+
+
+def is_ascending(values):
+    """Return True if each of some values is less than the next one."""
+    return all([values[at] < values[at + 1] for at in range(len(values) - 1)])

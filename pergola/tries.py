@@ -3,7 +3,6 @@
 from heapq import heappop, heappush
 
 from pergola.errors import TooLarge
-from pergola.pool import Pool
 
 # What is told in the place of a part if two labels do not fit.
 CONFLICT = -1
@@ -14,14 +13,12 @@ MOST_WATCHED = 60
 class SampleParts:
     """The parts of a sample, in order: each with the number of its sign and the places of its own parts.
 
-    `given` has for each of them the label that the sample has for it, or
-    None; `tree_places` has the places of the trees of the sample, in its
-    order.
+    The trees of the sample are told by their numbers in a pool that has no
+    other trees. `given` has for each part the label that the sample has for
+    it, or None; `tree_places` has the places of the trees, in their order.
     """
 
-    def __init__(self, signs, sample):
-        pool = Pool(signs)
-        numbers = [pool.number_for(tree) for tree, _ in sample]
+    def __init__(self, signs, pool, numbers, labels):
         order = pool.in_order()
         places = [0] * len(order)
         for place, number in enumerate(order):
@@ -31,7 +28,7 @@ class SampleParts:
         self.makings = [(sign, tuple([places[part] for part in parts])) for sign, parts in rows]
         self.tree_places = [places[number] for number in numbers]
         self.given = [None] * len(order)
-        for place, (_, label) in zip(self.tree_places, sample):
+        for place, label in zip(self.tree_places, labels):
             self.given[place] = label
 
 
@@ -259,7 +256,7 @@ class Bearers:
             self.in_heap[key] = True
             places = self.heaps[number].setdefault(label, [])
             heappush(places, place)
-        return self.broken_with(number, behind)
+        return self.broken_with(number, behind) if len(self.heaps[number]) > 1 else (behind, behind)
 
     def forget(self, places):
         """Note that some places are told no longer."""
@@ -268,15 +265,13 @@ class Bearers:
 
     def first_broken(self, behind):
         """Return the broken pair whose later place is the first one, or a pair of a place behind all."""
-        return min([self.broken_with(number, behind) for number in range(self.most)])
+        numbers = [number for number, heaps in enumerate(self.heaps) if len(heaps) > 1]
+        return min([self.broken_with(number, behind) for number in numbers], default=(behind, behind))
 
     def broken_with(self, number, behind):
         """Return the first broken pair of a number, or a pair of a place behind all."""
-        if len(self.heaps[number]) > 1:
-            firsts = sorted(self.firsts(number))
-            if len(firsts) > 1:
-                return firsts[1], firsts[0]
-        return behind, behind
+        firsts = sorted(self.firsts(number))
+        return (firsts[1], firsts[0]) if len(firsts) > 1 else (behind, behind)
 
     def firsts(self, number):
         """Return the list that has for each label of the trees with a number the place of the first such tree."""
