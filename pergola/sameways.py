@@ -31,7 +31,6 @@ class Pair:
         many = self.first_picker[0]
         return good_ways(self.first_picker, vector[:many]) == good_ways(self.second_picker, vector[many:])
 
-
     def all_over(self, vectors):
         """Return the list of the vectors of each sign over each row of some vectors, in order."""
         found = []
